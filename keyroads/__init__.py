@@ -1,0 +1,1 @@
+"""keyroads: houses that share roads take turns by keys, whatever is lost."""

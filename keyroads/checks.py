@@ -1,0 +1,48 @@
+"""Checks of arguments: each raises the error that the document names, or returns nothing."""
+
+from keyroads.errors import InvalidHouse, InvalidHouses, InvalidNet, InvalidNumber, InvalidStanding, InvalidWorks
+from keyroads.kinds import fits_house, fits_net, fits_resting, fits_standing, is_count, is_counts
+from keyroads.roads import all_directions
+
+
+def check_net(net):
+    """InvalidNet unless it is a net."""
+    if not fits_net(net):
+        raise InvalidNet(net)
+
+
+def check_standing(net, standing):
+    """InvalidNet and then InvalidStanding unless they are a net and a standing of it."""
+    check_net(net)
+    if not fits_standing(net, standing):
+        raise InvalidStanding(standing)
+
+
+def check_house(net, house):
+    """InvalidHouse unless it is a house of the net."""
+    if not fits_house(net, house):
+        raise InvalidHouse(house)
+
+
+def check_neighbour(net, one, other):
+    """InvalidHouse with the other one unless it is a neighbour of the one, which is a house."""
+    if not fits_house(net, other) or (one, other) not in all_directions(net):
+        raise InvalidHouse(other)
+
+
+def check_resting(net, resting):
+    """InvalidHouses unless it is an ascending list of houses, each once."""
+    if not fits_resting(net, resting):
+        raise InvalidHouses(resting)
+
+
+def check_works(net, works):
+    """InvalidWorks unless it is a list of counts, one for each house."""
+    if not is_counts(works, net[0]):
+        raise InvalidWorks(works)
+
+
+def check_count(number):
+    """InvalidNumber unless it is a count."""
+    if not is_count(number):
+        raise InvalidNumber(number)

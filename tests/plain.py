@@ -1,0 +1,194 @@
+"""Plain reckonings straight from the document's words, without anything of the package.
+
+They go through all ways, all rings, all runs or all standings of small nets.
+"""
+
+import itertools
+import random
+
+PATH = (3, [(0, 1, 1), (1, 2, 2)])
+RING = (3, [(0, 1, 1), (0, 2, 1), (1, 2, 1)])
+TAIL = (4, [(0, 1, 1), (0, 2, 1), (1, 2, 1), (2, 3, 1)])
+
+
+def complete(houses, many):
+    """The net in which each two houses have a road with so many keys."""
+    return (houses, [(low, high, many) for low, high in itertools.combinations(range(houses), 2)])
+
+
+def some_nets():
+    """Small nets: all shapes of three houses, and a choice of other ones."""
+    nets = [(1, []), (2, []), (2, [(0, 1, 1)]), (2, [(0, 1, 3)])]
+    pairs = [(0, 1), (0, 2), (1, 2)]
+    for keys in itertools.product((0, 1, 2), repeat=3):
+        nets.append((3, [(low, high, many) for (low, high), many in zip(pairs, keys) if many]))
+    nets.append(TAIL)
+    nets.append((4, [(0, 1, 1), (2, 3, 1)]))
+    nets.append((4, [(0, 1, 1), (0, 3, 1), (1, 2, 1), (2, 3, 1)]))
+    nets.append((4, [(0, 3, 2), (1, 3, 1), (2, 3, 1)]))
+    nets.append((4, [(0, 1, 1), (1, 2, 2), (1, 3, 1), (2, 3, 1)]))
+    nets.append(complete(4, 1))
+    nets.append((5, [(0, 1, 1), (0, 2, 1), (1, 2, 1), (3, 4, 2)]))
+    return nets
+
+
+def standings_of(net):
+    """All standings of a net, in order."""
+    return [list(item) for item in itertools.product(*[range(many + 1) for _, _, many in net[1]])]
+
+
+def some_cases(most=None, seed=1):
+    """Pairs of a net and a standing: all of the small nets, or so many of them."""
+    cases = [(net, standing) for net in some_nets() for standing in standings_of(net)]
+    if most is not None and most < len(cases):
+        cases = random.Random(seed).sample(cases, most)
+    return cases
+
+
+def random_case(chance, houses, most_keys, density):
+    """A random net with so many houses, and a standing of it."""
+    roads = [(low, high, chance.randint(1, most_keys))
+             for low, high in itertools.combinations(range(houses), 2) if chance.random() < density]
+    return (houses, roads), [chance.randint(0, many) for _, _, many in roads]
+
+
+def key_table(net, standing):
+    """k(u, v) for all directions."""
+    table = {}
+    for (low, high, many), at_high in zip(net[1], standing):
+        table[low, high] = at_high
+        table[high, low] = many - at_high
+    return table
+
+
+def near(net, house):
+    """The neighbours of a house."""
+    return sorted([high for low, high, _ in net[1] if low == house] + [low for low, high, _ in net[1] if high == house])
+
+
+def simple_ways(net, start):
+    """All ways from a house without a house twice."""
+    found = [[start]]
+    for way in found:
+        found.extend(way + [head] for head in near(net, way[-1]) if head not in way)
+    return found
+
+
+def ways_with(net, start, most):
+    """All ways from a house with at most so many houses, some perhaps several times."""
+    found = [[start]]
+    for way in found:
+        if len(way) < most:
+            found.extend(way + [head] for head in near(net, way[-1]))
+    return found
+
+
+def length(table, way):
+    """The length of a way."""
+    return sum(table[pair] for pair in zip(way, way[1:]))
+
+
+def ring_length(table, ring):
+    """The length of a ring."""
+    return length(table, ring + [ring[0]])
+
+
+def all_rings(net):
+    """All rings, in order."""
+    found = []
+    for size in range(3, net[0] + 1):
+        for ring in itertools.permutations(range(net[0]), size):
+            if ring[0] == min(ring) and all(two in near(net, one) for one, two in zip(ring, ring[1:] + ring[:1])):
+                found.append(list(ring))
+    return sorted(found)
+
+
+def stuck_rings(net, standing):
+    """All rings of length 0, in order."""
+    table = key_table(net, standing)
+    return [ring for ring in all_rings(net) if ring_length(table, ring) == 0]
+
+
+def stuck_houses(net, standing):
+    """The houses of all rings of length 0."""
+    return sorted({house for ring in stuck_rings(net, standing) for house in ring})
+
+
+def least_length(net, standing, starts, goal):
+    """The least length of ways from any of these houses, None if there is none."""
+    table = key_table(net, standing)
+    return min([length(table, way) for start in starts for way in simple_ways(net, start) if way[-1] == goal],
+               default=None)
+
+
+def first_best(net, standing, starts, goal):
+    """The first way without a house twice, of the least length, from any of these houses."""
+    table = key_table(net, standing)
+    ways = [way for start in starts for way in simple_ways(net, start) if way[-1] == goal]
+    least = min([length(table, way) for way in ways], default=None)
+    return min([way for way in ways if length(table, way) == least], default=None)
+
+
+def can_work(net, standing, house):
+    """Whether a house has a key at its end of each of its roads."""
+    table = key_table(net, standing)
+    return all(table[other, house] >= 1 for other in near(net, house))
+
+
+def work(net, standing, house):
+    """The standing behind the work of a house."""
+    return [at_high + (low == house) - (high == house) for (low, high, _), at_high in zip(net[1], standing)]
+
+
+def is_run(net, standing, run):
+    """Whether all houses of a list can work in turn."""
+    for house in run:
+        if not can_work(net, standing, house):
+            return False
+        standing = work(net, standing, house)
+    return True
+
+
+def behind(net, standing, run):
+    """The standing behind a run."""
+    for house in run:
+        standing = work(net, standing, house)
+    return standing
+
+
+def lists_by_runs(net, standing, most, resting=()):
+    """A dict from all lists of works that runs do, at most so many for each house, to what is behind them.
+
+    A run that does a list never passes it on the way, so none is left out.
+    """
+    found = {(0,) * net[0]: standing}
+    waiting = [(0,) * net[0]]
+    for works in waiting:
+        for house in range(net[0]):
+            if house not in resting and works[house] < most and can_work(net, found[works], house):
+                later = works[:house] + (works[house] + 1,) + works[house + 1:]
+                if later not in found:
+                    found[later] = work(net, found[works], house)
+                    waiting.append(later)
+    return found
+
+
+def runs_doing(net, standing, works):
+    """All runs that do a list of works, in order."""
+    houses = [house for house, many in enumerate(works) for _ in range(many)]
+    return [list(run) for run in sorted(set(itertools.permutations(houses))) if is_run(net, standing, run)]
+
+
+def runs_up_to(net, standing, most, resting=()):
+    """All runs with at most so many works, by houses that do not rest."""
+    found = [([], standing)]
+    for run, here in found:
+        if len(run) < most:
+            found.extend((run + [house], work(net, here, house)) for house in range(net[0])
+                         if house not in resting and can_work(net, here, house))
+    return [run for run, _ in found]
+
+
+def subsets(items):
+    """All ascending lists of some of these items."""
+    return [list(some) for size in range(len(items) + 1) for some in itertools.combinations(items, size)]

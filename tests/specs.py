@@ -1,0 +1,204 @@
+"""For each function of the interface: its arguments, and what it refuses, in this order.
+
+Judged anew here, without the package. A check takes all arguments by name and
+returns whether they pass it; behind it stand the error and the argument that the
+error holds.
+"""
+
+from keyroads.errors import (InvalidHouse, InvalidHouses, InvalidNet, InvalidNumber, InvalidRing, InvalidRun,
+                             InvalidStanding, InvalidWay, InvalidWorks, Unlike)
+from tests import plain
+
+
+def whole(value, least=0):
+    return type(value) is int and value >= least
+
+
+def list_of(value, judge):
+    return type(value) is list and all(judge(item) for item in value)
+
+
+def rising(items):
+    return all(one < two for one, two in zip(items, items[1:]))
+
+
+def good_net(value):
+    if type(value) is not tuple or len(value) != 2 or not whole(value[0], 1) or type(value[1]) is not list:
+        return False
+    for road in value[1]:
+        if type(road) is not tuple or len(road) != 3 or not all(whole(item) for item in road):
+            return False
+        if not (road[0] < road[1] < value[0] and road[2] >= 1):
+            return False
+    return value[1] == sorted(value[1]) and len({road[:2] for road in value[1]}) == len(value[1])
+
+
+def good_house(net, value):
+    return whole(value) and value < net[0]
+
+
+def good_standing(net, value):
+    return (list_of(value, whole) and len(value) == len(net[1])
+            and all(keys <= road[2] for keys, road in zip(value, net[1])))
+
+
+def good_resting(net, value):
+    return list_of(value, lambda item: good_house(net, item)) and rising(value)
+
+
+def good_works(net, value):
+    return list_of(value, whole) and len(value) == net[0]
+
+
+def good_run(net, standing, value, resting=()):
+    return (list_of(value, lambda item: good_house(net, item)) and not set(value) & set(resting)
+            and plain.is_run(net, standing, value))
+
+
+def good_direction(net, value):
+    return (type(value) is tuple and len(value) == 2 and all(good_house(net, item) for item in value)
+            and value[1] in plain.near(net, value[0]))
+
+
+def good_directions(net, value):
+    return list_of(value, lambda item: good_direction(net, item)) and rising(value)
+
+
+def good_way(net, value):
+    return (list_of(value, lambda item: good_house(net, item)) and value != []
+            and all(two in plain.near(net, one) for one, two in zip(value, value[1:])))
+
+
+def good_ring(net, value):
+    return (good_way(net, value) and len(value) >= 3 and len(set(value)) == len(value) and value[0] == min(value)
+            and value[0] in plain.near(net, value[-1]))
+
+
+def good_moves(net, standing, value):
+    if not good_directions(net, value):
+        return False
+    table = plain.key_table(net, standing)
+    return all(table[v, u] >= 1 and (v, u) not in value for u, v in value)
+
+
+def good_known(net, value):
+    def fits(item):
+        return type(item) is tuple and len(item) == 2 and good_house(net, item[0]) and whole(item[1])
+    return list_of(value, fits) and rising([item[0] for item in value])
+
+
+def house_check(name):
+    return (lambda a: good_house(a["net"], a[name]), InvalidHouse, name)
+
+
+def least_one(name):
+    return (lambda a: whole(a[name], 1), InvalidNumber, name)
+
+
+def neighbour_check(one, other):
+    return (lambda a: good_house(a["net"], a[other]) and a[other] in plain.near(a["net"], a[one]), InvalidHouse, other)
+
+
+NET = (lambda a: good_net(a["net"]), InvalidNet, "net")
+STANDING = (lambda a: good_standing(a["net"], a["standing"]), InvalidStanding, "standing")
+BOTH = [NET, STANDING]
+FREE = BOTH + [(lambda a: plain.stuck_rings(a["net"], a["standing"]) == [], InvalidStanding, "standing")]
+HOUSE = house_check("house")
+RESTING = (lambda a: good_resting(a["net"], a["resting"]), InvalidHouses, "resting")
+REST = BOTH + [RESTING]
+WORKS = (lambda a: good_works(a["net"], a["works"]), InvalidWorks, "works")
+RUN = (lambda a: good_run(a["net"], a["standing"], a["run"]), InvalidRun, "run")
+RUN_PAST = (lambda a: good_run(a["net"], a["standing"], a["run"], a["resting"]), InvalidRun, "run")
+LIST_OF_HOUSES = (lambda a: list_of(a["run"], lambda item: good_house(a["net"], item)), InvalidRun, "run")
+WAY = (lambda a: good_way(a["net"], a["way"]), InvalidWay, "way")
+RING = (lambda a: good_ring(a["net"], a["ring"]), InvalidRing, "ring")
+SOME = (lambda a: good_directions(a["net"], a["some"]), InvalidWay, "some")
+MOVES = (lambda a: good_moves(a["net"], a["standing"], a["moves"]), InvalidWay, "moves")
+KNOWN = (lambda a: good_known(a["net"], a["known"]), InvalidWorks, "known")
+PICKS = (lambda a: list_of(a["picks"], whole), InvalidNumber, "picks")
+TWO_HOUSES = BOTH + [house_check("one"), house_check("other")]
+ROAD = BOTH + [house_check("one"), neighbour_check("one", "other")]
+CAN = (lambda a: plain.can_work(a["net"], a["standing"], a["house"]), InvalidHouse, "house")
+TWO_RUNS = BOTH + [(lambda a: good_run(a["net"], a["standing"], a["one"]), InvalidRun, "one"),
+                   (lambda a: good_run(a["net"], a["standing"], a["other"]), InvalidRun, "other"),
+                   (lambda a: sorted(a["one"]) == sorted(a["other"]), Unlike, "other")]
+AHEAD = BOTH + [house_check("u"), least_one("i"), house_check("v"), (lambda a: a["v"] != a["u"], InvalidHouse, "v"),
+                least_one("j")]
+
+SPECS = {
+    "nets": {
+        "is_net": ("value", []),
+        "is_standing": ("net value", [NET]),
+        "neighbours": ("net house", [NET, HOUSE]),
+        "directions": ("net", [NET]),
+        "joined_parts": ("net", [NET]),
+        "keys_at": ("net standing one other", ROAD),
+        "how_many_standings": ("net", [NET]),
+        "all_standings": ("net", [NET]),
+        "is_way": ("net value", [NET]),
+        "is_ring": ("net value", [NET]),
+        "way_length": ("net standing way", BOTH + [WAY]),
+        "ring_length": ("net standing ring", BOTH + [RING]),
+        "rings": ("net", [NET]),
+        "least_lengths": ("net standing house", BOTH + [HOUSE]),
+        "shortest_way": ("net standing one other", TWO_HOUSES),
+    },
+    "works": {
+        "can_work": ("net standing house", BOTH + [HOUSE]),
+        "able": ("net standing", BOTH),
+        "work": ("net standing house", BOTH + [HOUSE, CAN]),
+        "is_run": ("net standing value", BOTH),
+        "done": ("net standing run", BOTH + [RUN]),
+        "works_of": ("net run", [NET, LIST_OF_HOUSES]),
+        "behind_works": ("net standing works", BOTH + [WORKS]),
+        "run_to_end": ("net standing resting", REST),
+    },
+    "lists": {
+        "are_works": ("net standing value", BOTH),
+        "run_for": ("net standing works", BOTH + [WORKS]),
+        "bar_of": ("net standing works", BOTH + [WORKS]),
+        "is_bar": ("net standing works value", BOTH + [WORKS]),
+        "how_many_runs": ("net standing works", BOTH + [WORKS]),
+        "all_runs": ("net standing works", BOTH + [WORKS]),
+        "always_ahead": ("net standing u i v j", AHEAD),
+        "needed_works": ("net standing house number",
+                         BOTH + [HOUSE, (lambda a: whole(a["number"]), InvalidNumber, "number")]),
+        "steps_between": ("net standing one other", TWO_RUNS),
+        "led_over": ("net standing one other", TWO_RUNS),
+    },
+}
+
+# Right arguments, for all names, of a net without and of one with a stuck ring.
+BASES = [
+    {"net": plain.PATH, "standing": [1, 2], "house": 2, "one": 1, "other": 2, "way": [0, 1], "ring": [0, 1, 2],
+     "run": [2, 2], "works": [1, 1, 1], "resting": [0], "u": 1, "v": 2, "i": 1, "j": 2, "number": 2,
+     "moves": [(1, 0)], "picks": [1], "known": [(0, 1)], "some": [(0, 1)], "value": [2]},
+    {"net": plain.RING, "standing": [1, 0, 1], "house": 1, "one": 1, "other": 2, "way": [0, 1, 0], "ring": [0, 2, 1],
+     "run": [], "works": [0, 0, 0], "resting": [], "u": 0, "v": 1, "i": 1, "j": 2, "number": 0,
+     "moves": [(0, 2)], "picks": [], "known": [(0, 0)], "some": [], "value": [0, 2, 1]},
+]
+# Names that mean runs in some functions and houses in others.
+RUNS = {"one": [2], "other": [2]}
+
+
+def all_functions():
+    """All functions of the interface: the module's name, the function's, its arguments and its checks."""
+    return [(module, name, names.split(), checks)
+            for module, functions in SPECS.items() for name, (names, checks) in functions.items()]
+
+
+def base_of(name, names, base):
+    """Right arguments for a function."""
+    arguments = {key: base[key] for key in names}
+    if name in ("steps_between", "led_over"):
+        runs = RUNS if base is BASES[0] else {"one": [], "other": []}
+        arguments.update(runs)
+    return arguments
+
+
+def expected_error(checks, arguments):
+    """The error that these arguments have to raise and the name of the argument that it holds, or None."""
+    for judge, error, name in checks:
+        if not judge(arguments):
+            return error, name
+    return None

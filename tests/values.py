@@ -1,0 +1,61 @@
+"""Values of all kinds that callers may hand over, and walks through results."""
+
+from keyroads.errors import InvalidNet, RoadError
+
+
+def nested(depth):
+    """A list within lists, so deep."""
+    value = []
+    for _ in range(depth - 1):
+        value = [value]
+    return value
+
+
+def any_values():
+    """New values of all kinds: right ones for some argument or other, and wrong ones."""
+    return [
+        None, True, False, -1, 0, 1, 2, 3, 7, 10 ** 29, -10 ** 29, "", "0", "road", "a b",
+        [], [0], [1], [2], [0, 1], [1, 0], [0, 2], [0, 0], [1, 2], [0, 1, 2], [2, 1, 0], [0, 2, 1], [1, 2, 0],
+        [0, 1, 0], [1, 1, 1], [0, 0, 0], [0, 1, 2, 3], [0, 5], [-1], [True], [False], [0, True, 0], [False, 1, 2],
+        [True, True, True], [None], [None, None, None], [0, None, None], ["0"], [[0, 1]], [[0, 0, 0]], [()],
+        [{}], [(0, 1)], [(1, 0)], [(0, 1), (1, 0)], [(0, 1), (1, 2)], [(1, 2), (0, 1)], [(0, 1), (0, 1)],
+        [(0, 2)], [(0, True)], [(False, 1)], [(0, 0)], [(0, 3)], [(0, 1, 2)], [(0,)], [(0, -1)], [(0, "1")],
+        [(0, 0), (2, 1)], [(2, 10 ** 29)], [(2, [])], [[0, 1], [1, 2]],
+        (), (0,), (0, 1), (1, 0), (0, 1, 2), (0, []), (1, []), (2, []), ([0, 1], 2), {}, {0: 1}, {"a": []},
+        (True, []), (0, [(0, 1, 1)]), (2, ((0, 1, 1),)), (2, [[0, 1, 1]]), (2, [(1, 0, 1)]), (2, [(0, 1, 0)]),
+        (2, [(0, 1, True)]), (2, [(False, 1, 1)]), (2, [(0, 2, 1)]), (2, [(-1, 1, 1)]), (2, [(0, 0, 1)]),
+        (3, [(1, 2, 1), (0, 1, 1)]), (3, [(0, 1, 1), (0, 1, 2)]), (3, [(0, 1, 1), (0, 1, 1)]), (2, [(0, 1)]),
+        (2, [(0, 1, 1, 1)]), (2, [(0, 1, "1")]), [2, []], (2, [], []), (2, {}), ("2", []), (2, None), (2, [None]),
+        (3, [(0, 1, 1), (1, 2, 2)]), (3, [(0, 1, 1), (0, 2, 1), (1, 2, 1)]), (2, [(0, 1, 2)]),
+        ("road", 0, 1), ("road", 1, 0), ("road", True, 0), ("road", 0, 2), ("road", 0), ("road", [0], 1),
+        ("ring", [0, 1, 2]), ("ring", [0, 2, 1]), ("ring", (0, 1, 2)), ("ring", [1, 2, 0]), ("ring", 0),
+        ("ring", [0, 1, 2], 0), (None, 0, 1), ([], [0, 1, 2]), nested(30), InvalidNet(3), RoadError(), [RoadError()],
+        (RoadError(), 0, 1),
+    ]
+
+
+def few_values():
+    """A few wrong and right ones of them, for taking them in pairs."""
+    return [None, True, -1, 0, 1, 5, "0", [], [0, 2], [0, 1, 0], [True], [(0, 1)], (0, 1), (2, []),
+            (3, [(0, 1, 1), (0, 2, 1), (1, 2, 1)])]
+
+
+def lists_in(value):
+    """All list objects within a value, each as often as it stands there."""
+    found = []
+    waiting = [value]
+    for item in waiting:
+        if isinstance(item, list):
+            found.append(item)
+        if isinstance(item, (list, tuple)):
+            waiting.extend(item)
+        if isinstance(item, dict):
+            waiting.extend(item.values())
+    return found
+
+
+def is_plain(value):
+    """Whether a result is made of None, Booleans, strings, whole numbers, tuples and lists."""
+    if isinstance(value, (list, tuple)):
+        return all(is_plain(item) for item in value)
+    return value is None or isinstance(value, (bool, int, str))
