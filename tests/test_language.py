@@ -130,6 +130,19 @@ class Names(unittest.TestCase):
             for name in free:
                 del left[name]
 
+    def test_each_name_is_bound_once_and_used(self):
+        used = set()
+        for name, tree in trees():
+            defined, imported = bound_at_top(tree)
+            self.assertEqual(len(set(defined) | set(imported)), len(defined) + len(imported), name)
+            words = {node.id for node in ast.walk(tree) if isinstance(node, ast.Name)}
+            self.assertFalse(set(imported) - words, name)
+            used |= {(module, word) for word, module in imported.items()} | {("keyroads." + name, w) for w in words}
+        for name, tree in trees():
+            if name in ("kinds", "checks", "roads", "lengths", "circles", "cuts", "ends", "orders"):
+                for word in bound_at_top(tree)[0]:
+                    self.assertIn(("keyroads." + name, word), used)
+
     def test_no_name_has_another_meaning(self):
         for name, tree in trees():
             defined, imported = bound_at_top(tree)
