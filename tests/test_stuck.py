@@ -6,6 +6,7 @@ import random
 import unittest
 
 from keyroads.errors import InvalidWay, TooMany
+from keyroads.lists import needed_works, run_for
 from keyroads.nets import all_standings, is_way, way_length
 from keyroads.stuck import (freeing, held_by, how_many_free, is_freeing, is_numbering, is_stuck_ring, never_working,
                             numbering, put_ahead, stuck_houses, stuck_ring, stuck_rings)
@@ -154,6 +155,15 @@ class Held(unittest.TestCase):
                         if way[-1] == house and plain.length(table, way) == 0]
                 self.assertEqual(held_by(net, standing, house), min(ways, default=None))
                 self.assertEqual(ways != [], house in right)
+
+    def test_without_stuck_rings_all_work_as_often_as_one_likes(self):
+        for net, standing in some_cases(60, 12):
+            if not plain.stuck_rings(net, standing):
+                self.assertEqual(never_working(net, standing), [])
+                for house in range(net[0]):
+                    run = run_for(net, standing, needed_works(net, standing, house, 30))
+                    self.assertTrue(plain.is_run(net, standing, run))
+                    self.assertEqual(run.count(house), 30)
 
     def test_two_stuck_rings(self):
         two = (6, [(0, 1, 1), (0, 2, 1), (1, 2, 1), (3, 4, 1), (3, 5, 1), (4, 5, 1)])
