@@ -1,8 +1,9 @@
 """Checks of arguments: each raises the error that the document names, or returns nothing."""
 
+from keyroads.circles import has_stuck_ring, reached_from
 from keyroads.errors import InvalidHouse, InvalidHouses, InvalidNet, InvalidNumber, InvalidStanding, InvalidWorks
 from keyroads.kinds import fits_house, fits_net, fits_resting, fits_standing, is_count, is_counts
-from keyroads.roads import all_directions
+from keyroads.roads import all_directions, keys_ahead, near_of
 
 
 def check_net(net):
@@ -16,6 +17,33 @@ def check_standing(net, standing):
     check_net(net)
     if not fits_standing(net, standing):
         raise InvalidStanding(standing)
+
+
+def check_two_standings(net, standing, other):
+    """InvalidNet and then InvalidStanding unless they are a net and two standings of it."""
+    check_standing(net, standing)
+    if not fits_standing(net, other):
+        raise InvalidStanding(other)
+
+
+def check_free(net, standing):
+    """InvalidNet and InvalidStanding unless the standing has no stuck ring."""
+    check_standing(net, standing)
+    if has_stuck_ring(keys_ahead(net, standing)):
+        raise InvalidStanding(standing)
+
+
+def check_joined(net):
+    """InvalidNet unless it is a net in which ways lead from each house to each other one."""
+    check_net(net)
+    if len(reached_from(near_of(net), [0])) < net[0]:
+        raise InvalidNet(net)
+
+
+def check_joined_free(net, standing):
+    """InvalidNet and InvalidStanding unless the net is joined and the standing has no stuck ring."""
+    check_joined(net)
+    check_free(net, standing)
 
 
 def check_house(net, house):

@@ -4,7 +4,8 @@
 on to from it; houses that lead nowhere need not stand in it.
 """
 
-from keyroads.roads import heads_of
+from keyroads.lengths import ring_keys
+from keyroads.roads import heads_of, near_of
 
 
 def waiting_pairs(ahead):
@@ -24,13 +25,39 @@ def rings_in(heads, most):
     the number of rings found, and not with that of all ways.
     """
     found = []
-    ways = [[start] for start in sorted(heads, reverse=True)]
+    ways = first_ways(heads)
     while ways and len(found) < most:
         way = ways.pop()
-        if len(way) > 2 and way[0] in heads[way[-1]]:
+        if closes(heads, way):
             found.append(way)
-        ways.extend([way + [head] for head in reversed(heads[way[-1]]) if leads_back(heads, way, head)])
+        ways.extend(longer_ways(heads, way))
     return found
+
+
+def first_unlike_ring(heads, changes):
+    """The first ring, in order, over which these changes of keys do not add up to 0, None if there is none."""
+    ways = first_ways(heads)
+    while ways:
+        way = ways.pop()
+        if closes(heads, way) and ring_keys(changes, way) != 0:
+            return way
+        ways.extend(longer_ways(heads, way))
+    return None
+
+
+def first_ways(heads):
+    """The ways of one house each, the last one in order first: the search takes ways from the end."""
+    return [[start] for start in sorted(heads, reverse=True)]
+
+
+def closes(heads, way):
+    """Whether one more step from the last house of a way to its first one makes it a ring."""
+    return len(way) > 2 and way[0] in heads[way[-1]]
+
+
+def longer_ways(heads, way):
+    """The ways of one step more that can be gone on to rings, the last one in order first."""
+    return [way + [head] for head in reversed(heads[way[-1]]) if leads_back(heads, way, head)]
 
 
 def leads_back(heads, way, head):
@@ -61,6 +88,20 @@ def reached_from(heads, starts):
         reached.extend(fresh)
         at += 1
     return reached
+
+
+def parts_of(net):
+    """The list, in order, of the ascending lists of houses that ways lead to one another."""
+    near = near_of(net)
+    parts = []
+    seen = {}
+    for house in range(net[0]):
+        if house not in seen:
+            part = sorted(reached_from(near, [house]))
+            parts.append(part)
+            for other in part:
+                seen[other] = True
+    return parts
 
 
 def houses_on_rings(ahead):

@@ -1,5 +1,7 @@
 """Reckoning over all lots of houses: a lot is a number, in whose bits each house has its place."""
 
+from keyroads.roads import heads_of
+
 
 def lots_of(many):
     """How many lots of so many houses there are, the empty one among them."""
@@ -57,3 +59,21 @@ def products_in_lots(houses, factors):
                 product *= factor
         products.append(product)
     return products
+
+
+def greatest_sum(keys, start):
+    """The greatest sum of keys over ways from a house without a house twice, along these directions."""
+    heads = heads_of(sorted(keys))
+    # Ways over the same lot of houses to the same last one may be gone on alike.
+    ways = {(1 << start, start): 0}
+    greatest = 0
+    while ways:
+        later = {}
+        for (lot, last), total in ways.items():
+            for head in heads[last]:
+                if not (lot >> head) & 1:
+                    name = (lot + (1 << head), head)
+                    later[name] = max(later.get(name, 0), total + keys[(last, head)])
+        greatest = max([greatest] + list(later.values()))
+        ways = later
+    return greatest

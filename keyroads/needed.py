@@ -1,18 +1,11 @@
 """Which directions bind houses by themselves, and what is known of works by those of some houses."""
 
-from keyroads.checks import check_house, check_standing
-from keyroads.circles import has_stuck_ring, houses_on_rings
-from keyroads.errors import InvalidStanding, InvalidWay, InvalidWorks
+from keyroads.checks import check_free, check_house, check_standing
+from keyroads.circles import houses_on_rings
+from keyroads.errors import InvalidWay, InvalidWorks
 from keyroads.kinds import fits_directions, fits_house, is_ascending, is_count, is_counts
 from keyroads.lengths import lengths_from, lengths_to
 from keyroads.roads import keys_ahead
-
-
-def check_free(net, standing):
-    """InvalidNet and InvalidStanding unless the standing has no stuck ring."""
-    check_standing(net, standing)
-    if has_stuck_ring(keys_ahead(net, standing)):
-        raise InvalidStanding(standing)
 
 
 def check_some(net, standing, some):

@@ -1,7 +1,7 @@
 """Nets, standings, ways and rings as data."""
 
 from keyroads.checks import check_house, check_neighbour, check_net, check_standing
-from keyroads.circles import reached_from, rings_in
+from keyroads.circles import parts_of, rings_in
 from keyroads.errors import InvalidRing, InvalidWay, TooMany
 from keyroads.kinds import fits_net, fits_ring, fits_standing, fits_way
 from keyroads.lengths import by_house, first_way, lengths_from, ring_keys, way_keys
@@ -38,16 +38,7 @@ def directions(net):
 def joined_parts(net):
     """The list, in order, of the ascending lists of houses that ways lead to one another."""
     check_net(net)
-    near = near_of(net)
-    parts = []
-    seen = {}
-    for house in range(net[0]):
-        if house not in seen:
-            part = sorted(reached_from(near, [house]))
-            parts.append(part)
-            for other in part:
-                seen[other] = True
-    return parts
+    return parts_of(net)
 
 
 def keys_at(net, standing, one, other):

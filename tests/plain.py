@@ -192,3 +192,50 @@ def runs_up_to(net, standing, most, resting=()):
 def subsets(items):
     """All ascending lists of some of these items."""
     return [list(some) for size in range(len(items) + 1) for some in itertools.combinations(items, size)]
+
+
+def later(net, standing):
+    """A dict from all standings that come of one, as tuples, to the works of one of the shortest runs there."""
+    found = {tuple(standing): (0,) * net[0]}
+    waiting = [standing]
+    for here in waiting:
+        works = found[tuple(here)]
+        for house in range(net[0]):
+            if can_work(net, here, house):
+                there = work(net, here, house)
+                if tuple(there) not in found:
+                    found[tuple(there)] = works[:house] + (works[house] + 1,) + works[house + 1:]
+                    waiting.append(there)
+    return found
+
+
+def joined_parts(net):
+    """The lists of houses that ways lead to one another."""
+    return sorted({tuple(sorted({way[-1] for way in simple_ways(net, start)})) for start in range(net[0])})
+
+
+def is_joined(net):
+    """Whether ways lead from each house to each other one."""
+    return len(joined_parts(net)) == 1
+
+
+def is_free(net, standing):
+    """Whether no ring is stuck."""
+    return not stuck_rings(net, standing)
+
+
+def at_rest(net, standing, resting):
+    """The run in which the least house works that can and does not rest, until none can; it has to end."""
+    run = []
+    while True:
+        ready = [house for house in range(net[0]) if house not in resting and can_work(net, standing, house)]
+        if not ready:
+            return run
+        run.append(ready[0])
+        standing = work(net, standing, ready[0])
+
+
+def without_road(net, standing, one, other):
+    """The net and the standing without the road of two houses."""
+    kept = [(road, keys) for road, keys in zip(net[1], standing) if set(road[:2]) != {one, other}]
+    return (net[0], [road for road, _ in kept]), [keys for _, keys in kept]

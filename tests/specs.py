@@ -5,6 +5,8 @@ returns whether they pass it; behind it stand the error and the argument that th
 error holds.
 """
 
+import copy
+
 from keyroads.errors import (InvalidHouse, InvalidHouses, InvalidNet, InvalidNumber, InvalidRing, InvalidRun,
                              InvalidStanding, InvalidWay, InvalidWorks, Unlike)
 from tests import plain
@@ -62,6 +64,10 @@ def good_direction(net, value):
 
 def good_directions(net, value):
     return list_of(value, lambda item: good_direction(net, item)) and rising(value)
+
+
+def good_wanted(net, value):
+    return list_of(value, lambda item: good_direction(net, item)) and len(set(value)) == len(value)
 
 
 def good_way(net, value):
@@ -122,6 +128,13 @@ CAN = (lambda a: plain.can_work(a["net"], a["standing"], a["house"]), InvalidHou
 TWO_RUNS = BOTH + [(lambda a: good_run(a["net"], a["standing"], a["one"]), InvalidRun, "one"),
                    (lambda a: good_run(a["net"], a["standing"], a["other"]), InvalidRun, "other"),
                    (lambda a: sorted(a["one"]) == sorted(a["other"]), Unlike, "other")]
+OTHER = (lambda a: good_standing(a["net"], a["other"]), InvalidStanding, "other")
+WANTED = (lambda a: good_wanted(a["net"], a["wanted"]), InvalidHouses, "wanted")
+JOINED = [NET, (lambda a: plain.is_joined(a["net"]), InvalidNet, "net")]
+JOINED_FREE = JOINED + [STANDING, FREE[-1]]
+GOAL = house_check("goal")
+TWO_GOALS = JOINED_FREE + [house_check("one"), house_check("other")]
+LOSS = [house_check("one"), neighbour_check("one", "other")]
 AHEAD = BOTH + [house_check("u"), least_one("i"), house_check("v"), (lambda a: a["v"] != a["u"], InvalidHouse, "v"),
                 least_one("j")]
 
@@ -209,19 +222,65 @@ SPECS = {
         "window": ("net standing house known", BOTH + [HOUSE, KNOWN]),
         "least_works": ("net standing known", BOTH + [KNOWN]),
     },
+    "reach": {
+        "works_between": ("net standing other", BOTH + [OTHER]),
+        "run_between": ("net standing other", BOTH + [OTHER]),
+        "is_run_between": ("net standing other value", BOTH + [OTHER]),
+        "round_trip": ("net standing other", BOTH + [OTHER]),
+        "barring": ("net standing other", BOTH + [OTHER]),
+        "is_barring": ("net standing other value", BOTH + [OTHER]),
+        "closed_rings": ("net", [NET]),
+        "ring_marks": ("net standing", BOTH),
+    },
+    "classes": {
+        "later_standings": ("net standing", BOTH),
+        "classes": ("net", [NET]),
+        "how_many_classes": ("net", [NET]),
+        "farthest": ("net standing", BOTH),
+        "nearest": ("net standing wanted", BOTH + [WANTED]),
+    },
+    "goals": {
+        "goal_standing": ("net standing goal", JOINED_FREE + [GOAL]),
+        "goal_works": ("net standing goal", JOINED_FREE + [GOAL]),
+        "is_goal_standing": ("net standing goal", JOINED_FREE + [GOAL]),
+        "goal_standings": ("net standing", JOINED_FREE),
+        "lone_workers": ("net standing", JOINED_FREE),
+        "how_many_for_goal": ("net goal", JOINED + [GOAL]),
+        "goal_road": ("net standing one other", TWO_GOALS),
+        "there_and_back": ("net standing one other", TWO_GOALS),
+        "goal_run": ("net standing goal", JOINED_FREE + [GOAL]),
+    },
+    "parcels": {
+        "leads_on": ("net standing", JOINED_FREE),
+        "parcel_way": ("net standing house", JOINED_FREE + [HOUSE]),
+        "how_many_ways": ("net standing house", JOINED_FREE + [HOUSE]),
+        "longest_way": ("net standing house", JOINED_FREE + [HOUSE]),
+        "lost_road": ("net standing one other", JOINED_FREE + LOSS),
+        "repair": ("net standing goal one other", JOINED_FREE + [GOAL] + LOSS),
+        "unharmed": ("net standing goal one other", JOINED_FREE + [GOAL] + LOSS),
+        "cut_off_bound": ("net goal", JOINED + [GOAL]),
+    },
 }
 
-# Right arguments, for all names, of a net without and of one with a stuck ring.
+# Right arguments, for all names, of a net without rings, of one with a stuck ring and of one with a free ring; "instead"
+# holds those of the functions in which a name means something else.
 BASES = [
     {"net": plain.PATH, "standing": [1, 2], "house": 2, "one": 1, "other": 2, "way": [0, 1], "ring": [0, 1, 2],
      "run": [2, 2], "works": [1, 1, 1], "resting": [0], "u": 1, "v": 2, "i": 1, "j": 2, "number": 2,
-     "moves": [(1, 0)], "picks": [1], "known": [(0, 1)], "some": [(0, 1)], "value": [2]},
+     "moves": [(1, 0)], "picks": [1], "known": [(0, 1)], "some": [(0, 1)], "value": [2], "wanted": [(1, 0), (0, 1)],
+     "goal": 1},
     {"net": plain.RING, "standing": [1, 0, 1], "house": 1, "one": 1, "other": 2, "way": [0, 1, 0], "ring": [0, 2, 1],
      "run": [], "works": [0, 0, 0], "resting": [], "u": 0, "v": 1, "i": 1, "j": 2, "number": 0,
-     "moves": [(0, 2)], "picks": [], "known": [(0, 0)], "some": [], "value": [0, 2, 1]},
+     "moves": [(0, 2)], "picks": [], "known": [(0, 0)], "some": [], "value": [0, 2, 1], "wanted": [], "goal": 0},
+    {"net": plain.RING, "standing": [1, 1, 1], "house": 2, "one": 2, "other": 0, "way": [1], "ring": [0, 1, 2],
+     "run": [2, 1], "works": [0, 0, 1], "resting": [0, 2], "u": 2, "v": 0, "i": 2, "j": 1, "number": 3,
+     "moves": [(0, 2)], "picks": [3, 0], "known": [(2, 1)], "some": [(1, 2)], "value": [2, 1, 0], "wanted": [(1, 2)],
+     "goal": 2},
 ]
-# Names that mean runs in some functions and houses in others.
-RUNS = {"one": [2], "other": [2]}
+TWO_RUN_LISTS = [{"one": [2], "other": [2]}, {"one": [], "other": []}, {"one": [2, 1], "other": [2, 1]}]
+OTHER_STANDINGS = [{"other": [0, 1]}, {"other": [1, 0, 1]}, {"other": [1, 0, 0]}]
+INSTEAD = {"steps_between": TWO_RUN_LISTS, "led_over": TWO_RUN_LISTS}
+INSTEAD.update({name: OTHER_STANDINGS for name in SPECS["reach"]})
 
 
 def all_functions():
@@ -232,11 +291,8 @@ def all_functions():
 
 def base_of(name, names, base):
     """Right arguments for a function."""
-    arguments = {key: base[key] for key in names}
-    if name in ("steps_between", "led_over"):
-        runs = RUNS if base is BASES[0] else {"one": [], "other": []}
-        arguments.update(runs)
-    return arguments
+    held = {**base, **INSTEAD[name][BASES.index(base)]} if name in INSTEAD else base
+    return copy.deepcopy({key: held[key] for key in names})
 
 
 def expected_error(checks, arguments):

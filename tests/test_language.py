@@ -13,7 +13,7 @@ FOLDER = pathlib.Path(__file__).resolve().parent.parent / "keyroads"
 LIBRARY = {"heapq": {"heappush", "heappop"}}
 BUILTINS = {"len", "range", "enumerate", "zip", "min", "max", "sum", "abs", "sorted", "reversed", "int", "str", "bool",
             "list", "tuple", "dict", "set", "isinstance", "any", "all", "divmod", "ValueError"}
-METHODS = {"append", "count", "extend", "get", "index", "items", "keys", "pop", "setdefault", "values"}
+METHODS = {"append", "count", "extend", "get", "index", "items", "keys", "pop", "setdefault", "update", "values"}
 NODES = {"Module", "Expr", "ImportFrom", "alias", "FunctionDef", "ClassDef", "arguments", "arg", "Return", "Assign",
          "AugAssign", "If", "While", "For", "Raise", "Continue", "Break", "Name", "Attribute", "Subscript", "Slice",
          "Constant", "List", "Tuple", "Dict", "ListComp", "DictComp", "SetComp", "comprehension", "Call", "keyword",
@@ -212,7 +212,7 @@ class Forms(unittest.TestCase):
                 over = {ast.dump(node) for node in ast.walk(loop.iter) if isinstance(node, ast.Name)}
                 for node in [inner for row in loop.body for inner in ast.walk(row)]:
                     if isinstance(node, ast.Call) and isinstance(node.func, ast.Attribute):
-                        if node.func.attr in ("append", "extend", "pop", "setdefault"):
+                        if node.func.attr in ("append", "extend", "pop", "setdefault", "update"):
                             self.assertNotIn(ast.dump(node.func.value), over, (name, node.lineno))
                     if isinstance(node, ast.Subscript) and isinstance(node.ctx, ast.Store):
                         held = ast.dump(node.value).replace("Store", "Load")
