@@ -1,9 +1,13 @@
 """Checks of arguments: each raises the error that the document names, or returns nothing."""
 
 from keyroads.circles import has_stuck_ring, reached_from
-from keyroads.errors import InvalidHouse, InvalidHouses, InvalidNet, InvalidNumber, InvalidStanding, InvalidWorks
-from keyroads.kinds import fits_house, fits_net, fits_resting, fits_standing, is_count, is_counts
+from keyroads.errors import InvalidHouse, InvalidHouses, InvalidNet, InvalidNumber, InvalidStanding
+from keyroads.errors import InvalidTimes, InvalidWorks
+from keyroads.kinds import fits_house, fits_net, fits_resting, fits_standing, fits_times
+from keyroads.kinds import is_count, is_count_list, is_counts
 from keyroads.roads import all_directions, keys_ahead, near_of
+
+MOST_BEATS = 500
 
 
 def check_net(net):
@@ -74,3 +78,22 @@ def check_count(number):
     """InvalidNumber unless it is a count."""
     if not is_count(number):
         raise InvalidNumber(number)
+
+
+def check_picks(picks):
+    """InvalidNumber unless it is a list of counts."""
+    if not is_count_list(picks):
+        raise InvalidNumber(picks)
+
+
+def check_timed(net, standing, times):
+    """The errors of a net, a standing and times for its houses."""
+    check_standing(net, standing)
+    if not fits_times(net, times):
+        raise InvalidTimes(times)
+
+
+def check_beats(many):
+    """InvalidNumber unless it is a count of at most 500."""
+    if not is_count(many) or many > MOST_BEATS:
+        raise InvalidNumber(many)

@@ -1,9 +1,9 @@
 """How often each house works in all if some houses rest."""
 
-from keyroads.checks import check_house, check_resting, check_standing
+from keyroads.checks import check_house, check_picks, check_resting, check_standing
 from keyroads.ends import counts_past, ends_of, run_by_picks
-from keyroads.errors import InvalidNumber, InvalidRun
-from keyroads.kinds import fits_house_list, fits_way, is_count, is_count_list
+from keyroads.errors import InvalidRun
+from keyroads.kinds import fits_house_list, fits_way, is_count
 from keyroads.lengths import by_house, first_way_from, lengths_to, way_keys
 from keyroads.roads import able_among, awake_houses, go_through, keys_ahead, near_of, shifted
 
@@ -82,8 +82,7 @@ def last_standing(net, standing, resting):
 def ending_run(net, standing, resting, picks):
     """A run past the resting houses that cannot be gone on, None if a house works without end."""
     check_rest(net, standing, resting)
-    if not is_count_list(picks):
-        raise InvalidNumber(picks)
+    check_picks(picks)
     if len(counts_past(keys_ahead(net, standing), resting)) < net[0]:
         return None
     return run_by_picks(net, standing, resting, picks)

@@ -23,9 +23,14 @@ def run_by_picks(net, standing, resting, picks):
     run = []
     ready = able_among(near, ahead, awake)
     while ready:
-        pick = picks[len(run)] if len(run) < len(picks) else 0
-        house = ready[pick % len(ready)]
+        house = picked(ready, picks, len(run))
         hand_over(near, ahead, house)
         run.append(house)
         ready = able_among(near, ahead, awake)
     return run
+
+
+def picked(ready, picks, turn):
+    """Who of those that are ready works at a turn, by picks, behind whose end it is the least one."""
+    pick = picks[turn] if turn < len(picks) else 0
+    return ready[pick % len(ready)]

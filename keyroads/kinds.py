@@ -3,7 +3,11 @@
 The functions take any value as `value`; a net that they are given is one.
 """
 
+from math import gcd
+
 from keyroads.roads import all_directions
+
+MOST_TIME = 9
 
 
 def is_whole(value):
@@ -24,6 +28,13 @@ def is_counts(value, many):
 def is_count_list(value):
     """Whether a value is a list of counts."""
     return isinstance(value, list) and is_counts(value, len(value))
+
+
+def is_fraction(value):
+    """Whether a value is a fraction: a tuple of two whole numbers, the lower one above 0, without a common factor."""
+    if not isinstance(value, tuple) or len(value) != 2 or not all([is_whole(item) for item in value]):
+        return False
+    return value[1] >= 1 and gcd(value[0], value[1]) == 1
 
 
 def is_ascending(items):
@@ -69,6 +80,11 @@ def fits_house(net, value):
 def fits_house_list(net, value):
     """Whether a value is a list of houses of a net, in any order."""
     return isinstance(value, list) and all([fits_house(net, item) for item in value])
+
+
+def fits_times(net, value):
+    """Whether a value is a list of times, one for each house."""
+    return is_counts(value, net[0]) and all([1 <= time <= MOST_TIME for time in value])
 
 
 def fits_resting(net, value):

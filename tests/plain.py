@@ -3,6 +3,7 @@
 They go through all ways, all rings, all runs or all standings of small nets.
 """
 
+import fractions
 import itertools
 import random
 
@@ -239,3 +240,45 @@ def without_road(net, standing, one, other):
     """The net and the standing without the road of two houses."""
     kept = [(road, keys) for road, keys in zip(net[1], standing) if set(road[:2]) != {one, other}]
     return (net[0], [road for road, _ in kept]), [keys for _, keys in kept]
+
+
+def beat_by_beat(net, standing, times, many, chosen=None):
+    """The lists of the houses that start at so many beats, and the states behind what is done, ahead of what starts.
+
+    All start that can, or else those of `chosen`; None if one of these cannot.
+    """
+    table, done_at = key_table(net, standing), {}
+    found, states = [], []
+    for beat in range(many):
+        for house in [house for house, done in done_at.items() if done == beat]:
+            del done_at[house]
+            for other in near(net, house):
+                table[house, other] += 1
+        states.append((sorted(table.items()), sorted((house, done - beat) for house, done in done_at.items())))
+        ready = [house for house in range(net[0])
+                 if house not in done_at and all(table[other, house] >= 1 for other in near(net, house))]
+        starting = ready if chosen is None else chosen[beat]
+        if not set(starting) <= set(ready):
+            return None
+        for house in starting:
+            done_at[house] = beat + times[house]
+            for other in near(net, house):
+                table[other, house] -= 1
+        found.append(starting)
+    return found, states
+
+
+def ratio_table(net, standing, times):
+    """For all houses, roads and rings, what each lets work at a beat, as fractions of Python's own."""
+    table = key_table(net, standing)
+    found = {(house,): fractions.Fraction(1, times[house]) for house in range(net[0])}
+    for low, high, many in net[1]:
+        found[low, high] = fractions.Fraction(many, times[low] + times[high])
+    for ring in all_rings(net):
+        found[tuple(ring)] = fractions.Fraction(ring_length(table, ring), sum(times[house] for house in ring))
+    return found
+
+
+def part_of(net, house):
+    """The houses that ways lead to from a house, itself among them."""
+    return [part for part in joined_parts(net) if house in part][0]

@@ -6,10 +6,11 @@ error holds.
 """
 
 import copy
+import math
 
 from keyroads.errors import (InvalidHouse, InvalidHouses, InvalidNet, InvalidNumber, InvalidRing, InvalidRun,
-                             InvalidStanding, InvalidWay, InvalidWorks, Unlike)
-from tests import plain
+                             InvalidScript, InvalidStanding, InvalidTimes, InvalidWay, InvalidWorks, Unlike)
+from tests import plain, plain_wire
 
 
 def whole(value, least=0):
@@ -93,6 +94,26 @@ def good_known(net, value):
     return list_of(value, fits) and rising([item[0] for item in value])
 
 
+def good_period(value):
+    return (type(value) is tuple and len(value) == 2 and all(whole(item, 1) for item in value)
+            and math.gcd(*value) == 1)
+
+
+def has_numbers(net, standing, times, period):
+    """Whether each house, road and ring of a net lets works begin so often."""
+    above, below = period
+    return all(ratio * above >= below for ratio in plain.ratio_table(net, standing, times).values())
+
+
+def keys_of(net, u, v):
+    return [many for low, high, many in net[1] if {low, high} == {u, v}][0]
+
+
+def good_told(value):
+    return (type(value) is tuple and value != () and type(value[0]) is str
+            and (value[0] != "work" or len(value) == 2 and whole(value[1])))
+
+
 def house_check(name):
     return (lambda a: good_house(a["net"], a[name]), InvalidHouse, name)
 
@@ -135,6 +156,16 @@ JOINED_FREE = JOINED + [STANDING, FREE[-1]]
 GOAL = house_check("goal")
 TWO_GOALS = JOINED_FREE + [house_check("one"), house_check("other")]
 LOSS = [house_check("one"), neighbour_check("one", "other")]
+TIMED = BOTH + [(lambda a: list_of(a["times"], lambda item: whole(item, 1) and item <= 9)
+                 and len(a["times"]) == a["net"][0], InvalidTimes, "times")]
+BEATS = (lambda a: whole(a["many"]) and a["many"] <= 500, InvalidNumber, "many")
+PERIOD = TIMED + [(lambda a: good_period(a["period"]), InvalidNumber, "period")]
+IN_TIME = (lambda a: has_numbers(a["net"], a["standing"], a["times"], a["period"]), InvalidNumber, "period")
+SCRIPT = BOTH + [(lambda a: plain_wire.is_script(a["net"], a["standing"], a["events"]), InvalidScript, "events")]
+TO = [house_check("u"), neighbour_check("u", "v")]
+OWN = (lambda a: whole(a["own"]), InvalidNumber, "own")
+LETTER = (lambda a: whole(a["letter"]) and a["letter"] <= keys_of(a["net"], a["u"], a["v"]), InvalidNumber, "letter")
+TOLD = (lambda a: list_of(a["events"], good_told), InvalidScript, "events")
 AHEAD = BOTH + [house_check("u"), least_one("i"), house_check("v"), (lambda a: a["v"] != a["u"], InvalidHouse, "v"),
                 least_one("j")]
 
@@ -260,6 +291,36 @@ SPECS = {
         "unharmed": ("net standing goal one other", JOINED_FREE + [GOAL] + LOSS),
         "cut_off_bound": ("net goal", JOINED + [GOAL]),
     },
+    "beats": {
+        "starts": ("net standing times many", TIMED + [BEATS]),
+        "turning": ("net standing times", TIMED),
+        "is_timetable": ("net standing times value", TIMED),
+    },
+    "rates": {
+        "rates": ("net standing times", TIMED),
+        "slowest": ("net standing times house", TIMED + [HOUSE]),
+        "is_slowest": ("net standing times house value", TIMED + [HOUSE]),
+        "are_numbers": ("net standing times period value", PERIOD),
+        "least_numbers": ("net standing times period", PERIOD),
+        "table_of_numbers": ("net standing times period many", PERIOD + [IN_TIME, BEATS]),
+    },
+    "wire": {
+        "read_letter": ("net standing u v own letter", BOTH + TO + [OWN, LETTER]),
+        "is_script": ("net standing value", BOTH),
+        "state_after": ("net standing events", SCRIPT),
+        "is_event": ("net standing events value", SCRIPT),
+        "believed": ("net standing events u v", SCRIPT + TO),
+        "believing": ("net standing events", SCRIPT),
+        "meant": ("net standing events", SCRIPT),
+        "run_of": ("events", [TOLD]),
+        "flushed": ("net standing events", SCRIPT),
+        "left_counts": ("net standing events", SCRIPT),
+        "gone_on": ("net standing events picks", SCRIPT + [PICKS]),
+    },
+    "bits": {
+        "disk_size": ("net house", [NET, HOUSE]),
+        "small_after": ("net standing events", SCRIPT),
+    },
 }
 
 # Right arguments, for all names, of a net without rings, of one with a stuck ring and of one with a free ring; "instead"
@@ -268,14 +329,17 @@ BASES = [
     {"net": plain.PATH, "standing": [1, 2], "house": 2, "one": 1, "other": 2, "way": [0, 1], "ring": [0, 1, 2],
      "run": [2, 2], "works": [1, 1, 1], "resting": [0], "u": 1, "v": 2, "i": 1, "j": 2, "number": 2,
      "moves": [(1, 0)], "picks": [1], "known": [(0, 1)], "some": [(0, 1)], "value": [2], "wanted": [(1, 0), (0, 1)],
-     "goal": 1},
+     "goal": 1, "times": [1, 2, 3], "many": 4, "period": (5, 1), "own": 1, "letter": 2,
+     "events": [("rest", 0), ("send", 1, 0), ("bring", 1, 0)]},
     {"net": plain.RING, "standing": [1, 0, 1], "house": 1, "one": 1, "other": 2, "way": [0, 1, 0], "ring": [0, 2, 1],
      "run": [], "works": [0, 0, 0], "resting": [], "u": 0, "v": 1, "i": 1, "j": 2, "number": 0,
-     "moves": [(0, 2)], "picks": [], "known": [(0, 0)], "some": [], "value": [0, 2, 1], "wanted": [], "goal": 0},
+     "moves": [(0, 2)], "picks": [], "known": [(0, 0)], "some": [], "value": [0, 2, 1], "wanted": [], "goal": 0,
+     "times": [1, 1, 1], "many": 0, "period": (1, 1), "own": 0, "letter": 0, "events": []},
     {"net": plain.RING, "standing": [1, 1, 1], "house": 2, "one": 2, "other": 0, "way": [1], "ring": [0, 1, 2],
      "run": [2, 1], "works": [0, 0, 1], "resting": [0, 2], "u": 2, "v": 0, "i": 2, "j": 1, "number": 3,
      "moves": [(0, 2)], "picks": [3, 0], "known": [(2, 1)], "some": [(1, 2)], "value": [2, 1, 0], "wanted": [(1, 2)],
-     "goal": 2},
+     "goal": 2, "times": [9, 1, 1], "many": 3, "period": (25, 2), "own": 3, "letter": 1,
+     "events": [("send", 0, 2), ("bring", 0, 2), ("send", 1, 2), ("bring", 1, 2), ("work", 2), ("rest", 2)]},
 ]
 TWO_RUN_LISTS = [{"one": [2], "other": [2]}, {"one": [], "other": []}, {"one": [2, 1], "other": [2, 1]}]
 OTHER_STANDINGS = [{"other": [0, 1]}, {"other": [1, 0, 1]}, {"other": [1, 0, 0]}]

@@ -10,16 +10,18 @@ import pathlib
 import unittest
 
 FOLDER = pathlib.Path(__file__).resolve().parent.parent / "keyroads"
-LIBRARY = {"heapq": {"heappush", "heappop"}}
+LIBRARY = {"heapq": {"heappush", "heappop"}, "math": {"gcd", "lcm"}}
 BUILTINS = {"len", "range", "enumerate", "zip", "min", "max", "sum", "abs", "sorted", "reversed", "int", "str", "bool",
             "list", "tuple", "dict", "set", "isinstance", "any", "all", "divmod", "ValueError"}
-METHODS = {"append", "count", "extend", "get", "index", "items", "keys", "pop", "setdefault", "update", "values"}
+METHODS = {"append", "count", "extend", "get", "index", "insert", "items", "keys", "pop", "setdefault", "update",
+           "values"}
 NODES = {"Module", "Expr", "ImportFrom", "alias", "FunctionDef", "ClassDef", "arguments", "arg", "Return", "Assign",
          "AugAssign", "If", "While", "For", "Raise", "Continue", "Break", "Name", "Attribute", "Subscript", "Slice",
          "Constant", "List", "Tuple", "Dict", "ListComp", "DictComp", "SetComp", "comprehension", "Call", "keyword",
          "BoolOp", "BinOp", "UnaryOp", "Compare", "IfExp", "Load", "Store", "And", "Or", "Not", "USub", "Add", "Sub",
          "Mult", "FloorDiv", "Mod", "LShift", "RShift", "BitAnd", "Eq", "NotEq", "Lt", "LtE", "Gt", "GtE", "Is",
          "IsNot", "In", "NotIn"}
+HELPERS = {"kinds", "checks", "roads", "lengths", "circles", "cuts", "ends", "orders", "hands", "ratios", "letters"}
 # Iterated on the spot, by what stands here, by a loop or by a comprehension.
 VIEWS = {"zip", "enumerate", "reversed", "range", "items", "keys", "values"}
 TAKERS = {"list", "tuple", "dict", "sorted", "sum", "any", "all", "enumerate", "zip", "min", "max", "reversed"}
@@ -53,6 +55,17 @@ def bound_at_top(tree):
         if isinstance(node, ast.ImportFrom):
             imported.update({item.name: node.module for item in node.names})
     return defined, imported
+
+
+def own_members():
+    """The attributes that classes of the package give their objects, and their methods."""
+    attributes, methods = {"value"}, set()
+    for _, tree in trees():
+        for made in [node for node in ast.walk(tree) if isinstance(node, ast.ClassDef)]:
+            methods |= {node.name for node in made.body if isinstance(node, ast.FunctionDef)} - {"__init__"}
+            attributes |= {node.attr for node in ast.walk(made) if isinstance(node, ast.Attribute)
+                           and isinstance(node.ctx, ast.Store)}
+    return attributes, methods
 
 
 def local_names(tree):
@@ -139,7 +152,7 @@ class Names(unittest.TestCase):
             self.assertFalse(set(imported) - words, name)
             used |= {(module, word) for word, module in imported.items()} | {("keyroads." + name, w) for w in words}
         for name, tree in trees():
-            if name in ("kinds", "checks", "roads", "lengths", "circles", "cuts", "ends", "orders"):
+            if name in HELPERS:
                 for word in bound_at_top(tree)[0]:
                     self.assertIn(("keyroads." + name, word), used)
 
@@ -173,15 +186,29 @@ class Forms(unittest.TestCase):
                     self.assertTrue(isinstance(node.exc, ast.Call) and node.exc.func.id[0].isupper(), name)
                     self.assertFalse(node.cause or node.exc.keywords)
 
+    def test_members_have_names_of_their_own(self):
+        attributes, methods = own_members()
+        self.assertFalse(attributes & methods)
+        for kind in (str, int, list, dict, set, bytes, tuple, range, slice):
+            self.assertFalse((attributes | methods) & set(dir(kind)), kind)
+        for _, tree in trees():
+            for made in [node for node in ast.walk(tree) if isinstance(node, ast.ClassDef)]:
+                words = [node.name for node in made.body if isinstance(node, ast.FunctionDef)]
+                self.assertEqual(len(words), len(set(words)))
+                for node in ast.walk(made):
+                    if isinstance(node, ast.Attribute) and isinstance(node.ctx, ast.Store):
+                        self.assertEqual(node.value.id, "self")
+
     def test_methods_and_builtins(self):
+        attributes, methods = own_members()
         for name, tree in trees():
             calls = [node for node in ast.walk(tree) if isinstance(node, ast.Call)]
             called = [node.func for node in calls]
             for node in ast.walk(tree):
                 if isinstance(node, ast.Attribute) and node in called:
-                    self.assertIn(node.attr, METHODS, (name, node.lineno))
+                    self.assertIn(node.attr, METHODS | methods, (name, node.lineno))
                 elif isinstance(node, ast.Attribute):
-                    self.assertEqual(node.attr, "value", (name, node.lineno))
+                    self.assertIn(node.attr, attributes, (name, node.lineno))
                 if isinstance(node, ast.Name) and node.id in BUILTINS - {"ValueError", "int", "str", "list", "tuple",
                                                                         "bool", "dict"}:
                     self.assertIn(node, called, (name, node.lineno))
@@ -212,7 +239,7 @@ class Forms(unittest.TestCase):
                 over = {ast.dump(node) for node in ast.walk(loop.iter) if isinstance(node, ast.Name)}
                 for node in [inner for row in loop.body for inner in ast.walk(row)]:
                     if isinstance(node, ast.Call) and isinstance(node.func, ast.Attribute):
-                        if node.func.attr in ("append", "extend", "pop", "setdefault", "update"):
+                        if node.func.attr in ("append", "extend", "insert", "pop", "setdefault", "update"):
                             self.assertNotIn(ast.dump(node.func.value), over, (name, node.lineno))
                     if isinstance(node, ast.Subscript) and isinstance(node.ctx, ast.Store):
                         held = ast.dump(node.value).replace("Store", "Load")
