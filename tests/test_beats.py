@@ -24,10 +24,11 @@ def timed_cases(many, seed, most_time=3):
 
 def plain_turning(net, standing, times, most):
     """The first beats until a state comes again, and where it came first."""
-    found, states = plain.beat_by_beat(net, standing, times, most)
-    for beat, state in enumerate(states):
-        if state in states[:beat]:
-            return found[:beat], states.index(state)
+    for many in (min(most, 60), most):
+        found, states = plain.beat_by_beat(net, standing, times, many)
+        for beat, state in enumerate(states):
+            if state in states[:beat]:
+                return found[:beat], states.index(state)
     return None
 
 

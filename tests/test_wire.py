@@ -89,10 +89,11 @@ class Scripts(unittest.TestCase):
             for size in range(4 if net == TWO else 3):
                 for events in self.scripts(net, standing, size):
                     wire = wire_behind(net, standing, events)
+                    possible = wire.possible()
                     self.assertTrue(is_script(net, standing, events))
                     self.assertEqual(state_after(net, standing, events), wire.state())
                     for event in tried:
-                        right = event in wire.possible()
+                        right = event in possible
                         self.assertIs(is_event(net, standing, events, event), right, (events, event))
                         if size < 2:
                             self.assertIs(is_script(net, standing, events + [event]), right)
@@ -106,6 +107,7 @@ class Scripts(unittest.TestCase):
     def test_long_ones(self):
         for net, standing, events in some_scripts(150, 161):
             wire = wire_behind(net, standing, events)
+            possible = wire.possible()
             self.assertTrue(is_script(net, standing, events))
             self.assertEqual(state_after(net, standing, events), wire.state())
             self.assertEqual(believing(net, standing, events), wire.believing())
@@ -115,9 +117,9 @@ class Scripts(unittest.TestCase):
                 self.assertEqual(believed(net, standing, events, u, v), wire.belief(u, v))
             for word in WORDS:
                 for event in [(word, house) for house in range(net[0])] + [(word, u, v) for u, v in wire.table]:
-                    self.assertIs(is_event(net, standing, events, event), event in wire.possible())
+                    self.assertIs(is_event(net, standing, events, event), event in possible)
                 for (u, v), place in itertools.product(wire.table, range(4)):
-                    right = (word, u, v, place) in wire.possible()
+                    right = (word, u, v, place) in possible
                     self.assertIs(is_event(net, standing, events, (word, u, v, place)), right)
 
     def test_each_event_has_to_be_possible_in_its_turn(self):
