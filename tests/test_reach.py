@@ -15,12 +15,14 @@ HUNG = (4, [(0, 1, 1), (1, 2, 1), (1, 3, 1), (2, 3, 1)])
 # Two rings in two parts, and one with a tail at either side.
 TWO = (6, [(0, 1, 1), (0, 2, 1), (1, 2, 1), (3, 4, 1), (3, 5, 1), (4, 5, 1)])
 TAILS = (5, [(0, 1, 1), (0, 2, 1), (1, 2, 1), (1, 3, 2), (2, 4, 1)])
+# Two rings with a road between them.
+BRIDGE = (6, [(0, 1, 1), (0, 2, 1), (1, 2, 1), (2, 3, 2), (3, 4, 1), (3, 5, 1), (4, 5, 1)])
 EIGHT = (5, [(0, 1, 1), (0, 2, 1), (1, 2, 1), (2, 3, 1), (2, 4, 1), (3, 4, 1)])
 
 
 def nets():
     """Small nets, with several parts and with several rings among them."""
-    return plain.some_nets() + [HUNG, TWO, TAILS, EIGHT, (4, [(0, 1, 2), (1, 2, 1)]), (5, TAIL[1])]
+    return plain.some_nets() + [HUNG, TWO, TAILS, EIGHT, BRIDGE, (4, [(0, 1, 2), (1, 2, 1)]), (5, TAIL[1])]
 
 
 def pairs_of_standings(net, most, seed):
@@ -109,6 +111,20 @@ class Works(unittest.TestCase):
         self.assertEqual(round_trip(TWO, held + [1, 1, 1], held + [0, 0, 1]), [0, 0, 0, 1, 1, 1])
         self.assertIsNone(works_between(TWO, held + [1, 1, 1], [1, 0, 1, 0, 0, 1]))
         self.assertIsNone(round_trip(TWO, held + [1, 1, 1], [1, 1, 1, 1, 1, 1]))
+
+    def test_two_stuck_rings_of_one_part(self):
+        """A key of the road between them would have to go over by works of houses that never work."""
+        for ring, later in itertools.product(([0, 1, 0], [1, 0, 1]), repeat=2):
+            for one, other in itertools.permutations(range(3), 2):
+                standing, there = ring + [one] + later, ring + [other] + later
+                self.assertIsNone(works_between(BRIDGE, standing, there))
+                self.assertIsNone(run_between(BRIDGE, standing, there))
+                self.assertEqual(barring(BRIDGE, standing, there)[0], "way")
+                self.assertEqual(barring(BRIDGE, standing, there), plain_barring(BRIDGE, standing, there))
+                self.assertTrue(is_barring(BRIDGE, standing, there, ("way", [2, 3])))
+                self.assertTrue(is_barring(BRIDGE, standing, there, ("way", [3, 2])))
+                self.assertFalse(is_barring(BRIDGE, standing, there, ("ways", [2, 3])))
+                self.assertFalse(is_barring(BRIDGE, standing, there, (None, [2, 3])))
 
     def test_some_run(self):
         for net in nets():
