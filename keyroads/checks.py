@@ -62,6 +62,13 @@ def check_neighbour(net, one, other):
         raise InvalidHouse(other)
 
 
+def check_road(net, standing, one, other):
+    """The errors of a net, a standing and two neighbours."""
+    check_standing(net, standing)
+    check_house(net, one)
+    check_neighbour(net, one, other)
+
+
 def check_resting(net, resting):
     """InvalidHouses unless it is an ascending list of houses, each once."""
     if not fits_resting(net, resting):

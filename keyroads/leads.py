@@ -1,6 +1,6 @@
 """By how many works one house is ever ahead of another, and the keys that ever lie on a road."""
 
-from keyroads.checks import check_house, check_neighbour, check_standing
+from keyroads.checks import check_house, check_road, check_standing
 from keyroads.circles import houses_on_rings, reached_from
 from keyroads.ends import run_by_picks
 from keyroads.kinds import fits_house_list
@@ -53,13 +53,6 @@ def is_lead_run(net, standing, one, other, value):
     if not fits_house_list(net, value) or not go_through(near_of(net), keys_ahead(net, standing), value, []):
         return False
     return value.count(other) - value.count(one) == most
-
-
-def check_road(net, standing, one, other):
-    """The errors of a net, a standing and two neighbours."""
-    check_standing(net, standing)
-    check_house(net, one)
-    check_neighbour(net, one, other)
 
 
 def fewest_keys(net, standing, one, other):

@@ -5,7 +5,7 @@ u to v, and held by v of u.
 """
 
 from keyroads.kinds import fits_house, is_count
-from keyroads.roads import all_directions, keys_ahead, near_of
+from keyroads.roads import all_directions, heads_of, keys_ahead, near_of
 
 
 def marks_of(net):
@@ -15,6 +15,11 @@ def marks_of(net):
         marks[(low, high)] = many + 1
         marks[(high, low)] = many + 1
     return marks
+
+
+def tellers_of(asked):
+    """For each house that these directions lead to, the list of those they come from, in their order."""
+    return heads_of([(other, one) for one, other in asked])
 
 
 def read_of(first, marks, own, letter):
@@ -37,12 +42,19 @@ def pass_on(line, event, letter):
 
 
 class Wire:
-    """What houses and lines hold behind the events up to now."""
+    """What houses and lines hold behind the events up to now.
 
-    def __init__(self, net, standing):
+    Letters go on the lines of the asked directions alone, and by these alone houses
+    tell whether they can work.
+    """
+
+    def __init__(self, net, standing, asked):
         self.houses = net[0]
         self.near = near_of(net)
         self.pairs = all_directions(net)
+        self.asked = {pair: True for pair in asked}
+        # For each house, those whose letters tell it whether it can work.
+        self.tellers = tellers_of(asked)
         self.marks = marks_of(net)
         self.first = keys_ahead(net, standing)
         self.works = [0] * net[0]
@@ -57,10 +69,10 @@ class Wire:
         return self.first[pair] + self.heard[pair] - self.works[pair[1]]
 
     def trusts(self, house):
-        """Whether a house does not rest and believes a key on each of its roads."""
+        """Whether a house does not rest and believes a key on each road that it asks about."""
         if house in self.rested:
             return False
-        beliefs = [self.belief((other, house)) for other in self.near.get(house, [])]
+        beliefs = [self.belief((other, house)) for other in self.tellers.get(house, [])]
         return all([keys is not None and keys > 0 for keys in beliefs])
 
     def trusting(self):
@@ -83,15 +95,25 @@ class Wire:
             if letter is not None:
                 self.heard[pair] = read_of(self.first[pair], self.marks[pair], self.works[pair[1]], letter)
 
-    def flush(self):
-        """Go on by one sending on each line, with all bringings behind it; returns these events."""
+    def flush(self, pairs):
+        """Go on by one sending on each of these lines, with all bringings behind it; returns these events."""
         events = []
-        for one, other in self.pairs:
+        for one, other in pairs:
             events.append(("send", one, other))
             events.extend([("bring", one, other)] * (len(self.lines[(one, other)]) + 1))
         for event in events:
             self.happen(event)
         return events
+
+    def state(self):
+        """All that is held, as a state."""
+        heard = [self.heard[pair] for pair in self.pairs]
+        return (list(self.works), sorted(self.rested), heard, [list(self.lines[pair]) for pair in self.pairs])
+
+
+def whole_wire(net, standing):
+    """The wire at the beginning, with letters on all lines."""
+    return Wire(net, standing, all_directions(net))
 
 
 def is_possible(net, wire, value):
@@ -109,7 +131,7 @@ def is_possible(net, wire, value):
 
 def is_possible_on(wire, value):
     """Whether a tuple that begins with a string is an event on a line that is possible now."""
-    if not all([is_count(number) for number in value[1:]]) or value[1:3] not in wire.lines:
+    if not all([is_count(number) for number in value[1:]]) or value[1:3] not in wire.asked:
         return False
     many = len(wire.lines[value[1:3]])
     if value[0] == "send":
@@ -128,3 +150,15 @@ def goes_on(net, wire, value):
             return False
         wire.happen(event)
     return True
+
+
+def told_script(asked, run):
+    """The script in which each house hears of all that it asks ahead of each of its works."""
+    tellers = tellers_of(asked)
+    events = []
+    for house in run:
+        for other in tellers.get(house, []):
+            events.append(("send", other, house))
+            events.append(("bring", other, house))
+        events.append(("work", house))
+    return events

@@ -105,6 +105,14 @@ def least_by(ahead, house, known):
     return max([0] + [works - lengths[other] for other, works in known if other in lengths])
 
 
+def most_by(ahead, house, known):
+    """How often a house has worked at the most when others have worked so often, None if there is no most."""
+    lengths = lengths_to(ahead, house)
+    bounds = [works + lengths[other] for other, works in known if other in lengths]
+    bounds.extend([lengths[other] for other in houses_on_rings(ahead) if other in lengths])
+    return min(bounds, default=None)
+
+
 def can_be(net, standing, known):
     """Whether at some moment of some run all these houses have worked just so often."""
     check_standing(net, standing)
@@ -120,11 +128,7 @@ def window(net, standing, house, known):
     ahead = keys_ahead(net, standing)
     if not is_met(ahead, known):
         return None
-    lengths = lengths_to(ahead, house)
-    bounds = [works + lengths[other] for other, works in known if other in lengths]
-    stuck = houses_on_rings(ahead)
-    bounds.extend([lengths[other] for other in stuck if other in lengths])
-    return (least_by(ahead, house, known), min(bounds) if bounds else None)
+    return (least_by(ahead, house, known), most_by(ahead, house, known))
 
 
 def least_works(net, standing, known):

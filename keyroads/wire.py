@@ -5,14 +5,14 @@ from keyroads.ends import counts_past, picked
 from keyroads.errors import InvalidNumber, InvalidScript
 from keyroads.kinds import is_count
 from keyroads.lengths import by_house
-from keyroads.letters import Wire, goes_on, is_possible, marks_of, read_of
+from keyroads.letters import goes_on, is_possible, marks_of, read_of, whole_wire
 from keyroads.roads import keys_ahead, shifted
 
 
 def wire_behind(net, standing, events):
     """The wire behind a script; the errors of a net, a standing and a script."""
     check_standing(net, standing)
-    wire = Wire(net, standing)
+    wire = whole_wire(net, standing)
     if not goes_on(net, wire, events):
         raise InvalidScript(events)
     return wire
@@ -33,14 +33,12 @@ def read_letter(net, standing, u, v, own, letter):
 def is_script(net, standing, value):
     """Whether a value is a list of events, each possible when its turn comes."""
     check_standing(net, standing)
-    return goes_on(net, Wire(net, standing), value)
+    return goes_on(net, whole_wire(net, standing), value)
 
 
 def state_after(net, standing, events):
     """The state behind a script: works, resting houses, what is heard, and the letters on all lines."""
-    wire = wire_behind(net, standing, events)
-    heard = [wire.heard[pair] for pair in wire.pairs]
-    return (list(wire.works), sorted(wire.rested), heard, [list(wire.lines[pair]) for pair in wire.pairs])
+    return wire_behind(net, standing, events).state()
 
 
 def is_event(net, standing, events, value):
@@ -83,7 +81,7 @@ def is_told(value):
 def flushed(net, standing, events):
     """The script with one sending on each line behind it, and with as many bringings as there are letters then."""
     wire = wire_behind(net, standing, events)
-    return events + wire.flush()
+    return events + wire.flush(wire.pairs)
 
 
 def counts_left(net, standing, wire):
@@ -102,14 +100,14 @@ def gone_on(net, standing, events, picks):
     check_picks(picks)
     if len(counts_left(net, standing, wire)) < net[0]:
         return None
-    script = events + wire.flush()
+    script = events + wire.flush(wire.pairs)
     turn = 0
     ready = wire.trusting()
     while ready:
         event = ("work", picked(ready, picks, turn))
         wire.happen(event)
         script.append(event)
-        script.extend(wire.flush())
+        script.extend(wire.flush(wire.pairs))
         turn += 1
         ready = wire.trusting()
     return script

@@ -130,6 +130,13 @@ def first_best(net, standing, starts, goal):
     return min([way for way in ways if length(table, way) == least], default=None)
 
 
+def needed_ones(net, standing):
+    """The directions whose step is the only way of at most its length."""
+    table = key_table(net, standing)
+    return [(u, v) for u, v in sorted(table) if [way for way in simple_ways(net, u) if way[-1] == v
+                                                 and length(table, way) <= table[u, v]] == [[u, v]]]
+
+
 def can_work(net, standing, house):
     """Whether a house has a key at its end of each of its roads."""
     table = key_table(net, standing)

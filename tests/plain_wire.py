@@ -9,7 +9,7 @@ class PlainWire:
     """What houses and lines hold behind some events."""
 
     def __init__(self, net, standing):
-        self.net, self.table = net, plain.key_table(net, standing)
+        self.net, self.meant_at_first, self.table = net, standing, plain.key_table(net, standing)
         self.many = {(one, other): road[2] for road in net[1] for one, other in (road[:2], road[1::-1])}
         self.works, self.resting = [0] * net[0], []
         self.heard = {pair: None for pair in self.table}
@@ -20,7 +20,10 @@ class PlainWire:
 
     def believing(self):
         return [v for v in range(self.net[0]) if v not in self.resting
-                and all((self.belief(u, v) or 0) >= 1 for u in plain.near(self.net, v))]
+                and all((self.belief(u, v) or 0) >= 1 for u in self.asks(v))]
+
+    def asks(self, v):
+        return plain.near(self.net, v)
 
     def meant(self):
         return [self.table[low, high] + self.works[low] - self.works[high] for low, high, _ in self.net[1]]
@@ -76,6 +79,42 @@ class PlainWire:
         return (self.works, self.resting, [self.heard[pair] for pair in sorted(self.heard)], self.letters())
 
 
+class QuietWire(PlainWire):
+    """The same with letters on some lines alone, and with the rests themselves on them.
+
+    Here houses may work without a key, and then what is read may not be what was sent.
+    """
+
+    def __init__(self, net, standing, asked):
+        super().__init__(net, standing)
+        self.asked = asked
+
+    def asks(self, v):
+        return [u for u, hearer in self.asked if hearer == v]
+
+    def possible(self):
+        return [event for event in super().possible()
+                if event[0] in ("work", "fall", "rest") or event[1:3] in self.asked]
+
+    def do(self, event):
+        super().do(event)
+        if event[0] == "send":
+            line = self.lines[event[1:]]
+            line[-1] %= self.many[event[1:]] + 1
+        elif event[0] == "bring":
+            pair = event[1:]
+            self.heard[pair] = self.read(pair, self.works[pair[1]], self.heard[pair])
+
+    def read(self, pair, own, letter):
+        """The one number that keeps all keys of the road on it, and has this rest."""
+        many = self.many[pair]
+        return [number for number in range(own - self.table[pair], own - self.table[pair] + many + 1)
+                if number % (many + 1) == letter][0]
+
+    def letters(self):
+        return [self.lines[pair] for pair in sorted(self.lines)]
+
+
 def wire_behind(net, standing, events):
     """The wire behind events that are possible."""
     wire = PlainWire(net, standing)
@@ -84,11 +123,10 @@ def wire_behind(net, standing, events):
     return wire
 
 
-def is_script(net, standing, value):
-    """Whether a value is a script."""
+def goes_through(wire, value):
+    """Whether a value is a list of events, each possible in its turn; they are done as far as they are."""
     if type(value) is not list:
         return False
-    wire = PlainWire(net, standing)
     for event in value:
         if not wire.takes(event):
             return False
@@ -96,9 +134,17 @@ def is_script(net, standing, value):
     return True
 
 
-def random_script(chance, net, standing, many, words=("work", "send", "bring", "lose", "double", "fall", "rest")):
-    """A script of at most so many events, with these words, each as likely as the others, but works and letters more."""
-    wire, events = PlainWire(net, standing), []
+def is_script(net, standing, value):
+    """Whether a value is a script."""
+    return goes_through(PlainWire(net, standing), value)
+
+
+WORDS = ("work", "send", "bring", "lose", "double", "fall", "rest")
+
+
+def random_events(chance, wire, many, words=WORDS):
+    """At most so many events with these words, each as likely as the others, but works and letters more."""
+    events = []
     for _ in range(many):
         word = chance.choice([word for word in words if word in ("work", "send", "bring")] * 4 + list(words))
         choice = [event for event in wire.possible() if event[0] == word]
@@ -106,6 +152,11 @@ def random_script(chance, net, standing, many, words=("work", "send", "bring", "
             events.append(chance.choice(choice))
             wire.do(events[-1])
     return events
+
+
+def random_script(chance, net, standing, many, words=WORDS):
+    """A script of at most so many events."""
+    return random_events(chance, PlainWire(net, standing), many, words)
 
 
 def some_scripts(many, seed, words=None, length=60):

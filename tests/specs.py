@@ -1,16 +1,17 @@
 """For each function of the interface: its arguments, and what it refuses, in this order.
 
 Judged anew here, without the package. A check takes all arguments by name and
-returns whether they pass it; behind it stand the error and the argument that the
-error holds.
+returns whether they pass it; behind it stand the error and the name of the argument
+that the error holds, or what tells, of all arguments, what it holds instead.
 """
 
 import copy
 import math
 
-from keyroads.errors import (InvalidHouse, InvalidHouses, InvalidNet, InvalidNumber, InvalidRing, InvalidRun,
-                             InvalidScript, InvalidStanding, InvalidTimes, InvalidWay, InvalidWorks, Unlike)
-from tests import plain, plain_wire
+from keyroads.errors import (InvalidEvent, InvalidHouse, InvalidHouses, InvalidMarks, InvalidNet,
+                             InvalidNumber, InvalidRing, InvalidRun, InvalidScript, InvalidStanding, InvalidTimes,
+                             InvalidWay, InvalidWorks, Unlike)
+from tests import plain, plain_marks, plain_wire
 
 
 def whole(value, least=0):
@@ -114,6 +115,18 @@ def good_told(value):
             and (value[0] != "work" or len(value) == 2 and whole(value[1])))
 
 
+def quiet(arguments):
+    """Whether the events are possible with letters on the asked lines alone."""
+    wire = plain_wire.QuietWire(arguments["net"], arguments["standing"], arguments["asked"])
+    return plain_wire.goes_through(wire, arguments["events"])
+
+
+def on_line(arguments):
+    """Whether the events are possible on the line from u to v."""
+    told = [arguments[name] for name in ("net", "standing", "u", "v", "marks", "events")]
+    return plain_marks.line_behind(*told) is not None
+
+
 def house_check(name):
     return (lambda a: good_house(a["net"], a[name]), InvalidHouse, name)
 
@@ -168,6 +181,16 @@ LETTER = (lambda a: whole(a["letter"]) and a["letter"] <= keys_of(a["net"], a["u
 TOLD = (lambda a: list_of(a["events"], good_told), InvalidScript, "events")
 AHEAD = BOTH + [house_check("u"), least_one("i"), house_check("v"), (lambda a: a["v"] != a["u"], InvalidHouse, "v"),
                 least_one("j")]
+ASKED = (lambda a: good_directions(a["net"], a["asked"]), InvalidWay, "asked")
+ENOUGH = (lambda a: set(plain.needed_ones(a["net"], a["standing"])) <= set(a["asked"]), InvalidWay, "asked")
+QUIET = (quiet, InvalidScript, "events")
+TOLD_BY = BOTH + TO + [(lambda a: whole(a["marks"], 1), InvalidMarks, "marks")]
+ON_LINE = (on_line, InvalidEvent, "events")
+COUNT = [(lambda a, name=name: whole(a[name]), InvalidNumber, name) for name in ("number", "first")]
+MARKS_LETTER = (lambda a: whole(a["letter"]) and a["letter"] < a["marks"], InvalidNumber, "letter")
+LETTERS = (lambda a: list_of(a["letters"], whole), InvalidNumber, "letters")
+DEAD = (lambda a: good_directions(a["net"], a["dead"]), InvalidHouses, "dead")
+MANY = (lambda a: whole(a["many"]), InvalidNumber, "many")
 
 SPECS = {
     "nets": {
@@ -321,6 +344,48 @@ SPECS = {
         "disk_size": ("net house", [NET, HOUSE]),
         "small_after": ("net standing events", SCRIPT),
     },
+    "silence": {
+        "is_quiet_script": ("net standing asked value", FREE + [ASKED]),
+        "quiet_state": ("net standing asked events", FREE + [ASKED, QUIET]),
+        "are_enough": ("net standing asked", FREE + [ASKED]),
+        "quiet_script_of": ("net standing asked run", FREE + [ASKED, ENOUGH, RUN]),
+        "is_unsafe": ("net standing asked value", FREE + [ASKED]),
+        "unsafe_script": ("net standing asked", FREE + [ASKED]),
+    },
+    "knowing": {
+        "can_have_worked": ("net standing events house value", SCRIPT + [HOUSE]),
+        "alike_script": ("net standing events house works", SCRIPT + [HOUSE, WORKS]),
+        "is_alike_script": ("net standing events house value", SCRIPT + [HOUSE]),
+        "known": ("net standing events house other", SCRIPT + [HOUSE, house_check("other")]),
+        "all_known": ("net standing events house", SCRIPT + [HOUSE]),
+        "surely_there": ("net standing events house u v", SCRIPT + [HOUSE] + TO),
+        "surely_able": ("net standing events house", SCRIPT + [HOUSE]),
+    },
+    "marks": {
+        "spread": ("net standing u v", BOTH + TO),
+        "read_by": ("number first marks letter", COUNT + [TOLD_BY[-1], MARKS_LETTER]),
+        "enough_marks": ("net standing u v", BOTH + TO),
+        "alike_lines": ("net standing u v marks", TOLD_BY),
+        "are_alike_lines": ("net standing u v marks value", TOLD_BY),
+        "alike_runs": ("net standing u v marks", TOLD_BY),
+        "are_alike_runs": ("net standing u v marks value", TOLD_BY),
+        "late_letter": ("net standing u v marks", TOLD_BY),
+        "is_late_letter": ("net standing u v marks value", TOLD_BY),
+        "read_whole": ("number first letters", COUNT + [LETTERS]),
+        "is_line": ("net standing u v marks value", TOLD_BY),
+        "line_read": ("net standing u v marks events", TOLD_BY + [ON_LINE]),
+        "wants": ("net standing u v marks events", TOLD_BY + [ON_LINE]),
+    },
+    "engine": {
+        "script_for": ("net standing run", BOTH + [RUN]),
+        "round_behind": ("net standing events", SCRIPT),
+        "with_rounds": ("net standing events many", SCRIPT + [MANY]),
+        "is_quiet": ("net standing events", SCRIPT),
+        "rounds_to_quiet": ("net standing events", SCRIPT),
+        "goes_without": ("net standing events dead", SCRIPT + [DEAD]),
+        "counts_without": ("net standing resting dead", REST + [DEAD]),
+        "rounds_without": ("net standing resting dead many", REST + [DEAD, MANY]),
+    },
 }
 
 # Right arguments, for all names, of a net without rings, of one with a stuck ring and of one with a free ring; "instead"
@@ -330,21 +395,27 @@ BASES = [
      "run": [2, 2], "works": [1, 1, 1], "resting": [0], "u": 1, "v": 2, "i": 1, "j": 2, "number": 2,
      "moves": [(1, 0)], "picks": [1], "known": [(0, 1)], "some": [(0, 1)], "value": [2], "wanted": [(1, 0), (0, 1)],
      "goal": 1, "times": [1, 2, 3], "many": 4, "period": (5, 1), "own": 1, "letter": 2,
-     "events": [("rest", 0), ("send", 1, 0), ("bring", 1, 0)]},
+     "events": [("rest", 0), ("send", 1, 0), ("bring", 1, 0)], "asked": [(0, 1), (1, 0), (1, 2), (2, 1)], "first": 1,
+     "marks": 3, "letters": [0, 2], "dead": [(0, 1)]},
     {"net": plain.RING, "standing": [1, 0, 1], "house": 1, "one": 1, "other": 2, "way": [0, 1, 0], "ring": [0, 2, 1],
      "run": [], "works": [0, 0, 0], "resting": [], "u": 0, "v": 1, "i": 1, "j": 2, "number": 0,
      "moves": [(0, 2)], "picks": [], "known": [(0, 0)], "some": [], "value": [0, 2, 1], "wanted": [], "goal": 0,
-     "times": [1, 1, 1], "many": 0, "period": (1, 1), "own": 0, "letter": 0, "events": []},
+     "times": [1, 1, 1], "many": 0, "period": (1, 1), "own": 0, "letter": 0, "events": [], "asked": [(0, 1)], "first": 0,
+     "marks": 1, "letters": [], "dead": []},
     {"net": plain.RING, "standing": [1, 1, 1], "house": 2, "one": 2, "other": 0, "way": [1], "ring": [0, 1, 2],
      "run": [2, 1], "works": [0, 0, 1], "resting": [0, 2], "u": 2, "v": 0, "i": 2, "j": 1, "number": 3,
      "moves": [(0, 2)], "picks": [3, 0], "known": [(2, 1)], "some": [(1, 2)], "value": [2, 1, 0], "wanted": [(1, 2)],
      "goal": 2, "times": [9, 1, 1], "many": 3, "period": (25, 2), "own": 3, "letter": 1,
-     "events": [("send", 0, 2), ("bring", 0, 2), ("send", 1, 2), ("bring", 1, 2), ("work", 2), ("rest", 2)]},
+     "events": [("send", 0, 2), ("bring", 0, 2), ("send", 1, 2), ("bring", 1, 2), ("work", 2), ("rest", 2)],
+     "asked": [(0, 2), (1, 0), (2, 1)], "first": 2, "marks": 2, "letters": [5, 1, 1], "dead": [(0, 2), (1, 0)]},
 ]
 TWO_RUN_LISTS = [{"one": [2], "other": [2]}, {"one": [], "other": []}, {"one": [2, 1], "other": [2, 1]}]
 OTHER_STANDINGS = [{"other": [0, 1]}, {"other": [1, 0, 1]}, {"other": [1, 0, 0]}]
 INSTEAD = {"steps_between": TWO_RUN_LISTS, "led_over": TWO_RUN_LISTS}
 INSTEAD.update({name: OTHER_STANDINGS for name in SPECS["reach"]})
+INSTEAD.update({name: [{"events": ["send", "bring", 2]}, {"events": []}, {"events": ["send", "fall", "bring"]}]
+                for name in ("line_read", "wants")})
+INSTEAD["quiet_state"] = [{}, {}, {"events": [("send", 0, 2), ("bring", 0, 2), ("work", 2)]}]
 
 
 def all_functions():
@@ -360,8 +431,8 @@ def base_of(name, names, base):
 
 
 def expected_error(checks, arguments):
-    """The error that these arguments have to raise and the name of the argument that it holds, or None."""
-    for judge, error, name in checks:
+    """The error that these arguments have to raise, and the name of the argument or else the value that it holds."""
+    for judge, error, held in checks:
         if not judge(arguments):
-            return error, name
+            return (error, held, None) if type(held) is str else (error, None, held(arguments))
     return None

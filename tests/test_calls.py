@@ -8,7 +8,7 @@ import unittest
 
 from keyroads.errors import RoadError, TooMany
 from tests.specs import BASES, all_functions, base_of, expected_error, good_net
-from tests.values import any_values, few_values, is_plain, lists_in
+from tests.values import any_values, few_values, is_plain, lists_in, more_values
 
 
 def function_of(module, name):
@@ -18,7 +18,7 @@ def function_of(module, name):
 class Calls(unittest.TestCase):
     def judge_call(self, function, names, checks, arguments):
         """One call: it raises just what it has to, and changes nothing; or returns what it may."""
-        before = copy.deepcopy([arguments[name] for name in names if not has_error(arguments[name])])
+        before = copy.deepcopy([arguments[name] for name in names if not has_object(arguments[name])])
         expected = expected_error(checks, arguments)
         try:
             result = function(*[arguments[name] for name in names])
@@ -28,11 +28,14 @@ class Calls(unittest.TestCase):
         except RoadError as error:
             self.assertIsNotNone(expected, (function, arguments, error))
             self.assertIs(type(error), expected[0], (function, arguments))
-            self.assertIs(error.value, arguments[expected[1]], (function, arguments))
+            if expected[1] is None:
+                self.assertEqual(repr(error.value), repr(expected[2]), (function, arguments))
+            else:
+                self.assertIs(error.value, arguments[expected[1]], (function, arguments))
         else:
             self.assertIsNone(expected, (function, arguments, result))
             self.judge_result(function, names, arguments, result)
-        after = [arguments[name] for name in names if not has_error(arguments[name])]
+        after = [arguments[name] for name in names if not has_object(arguments[name])]
         self.assertEqual(repr(before), repr(after))
 
     def judge_result(self, function, names, arguments, result):
@@ -61,7 +64,9 @@ class Calls(unittest.TestCase):
             function = function_of(module, name)
             for base in BASES:
                 for changed in names:
-                    for value in any_values():
+                    for value in any_values() + more_values(changed):
+                        if is_far_beyond(name, changed, value):
+                            continue
                         arguments = base_of(name, names, base)
                         arguments[changed] = value
                         self.judge_call(function, names, checks, arguments)
@@ -107,10 +112,16 @@ class Calls(unittest.TestCase):
                          [function_of("nets", "is_net")(value) for value in any_values()])
 
 
-def has_error(value):
-    """Whether an error object stands within a value: these are equal to themselves alone."""
+def is_far_beyond(name, changed, value):
+    """Whether a number is so far beyond its limit that what is asked for never ends."""
+    return (name in ("with_rounds", "rounds_without") and changed == "many" and type(value) is int
+            and value > 600)
+
+
+def has_object(value):
+    """Whether an object of a class stands within a value: copies of these are written in another way."""
     if isinstance(value, (list, tuple)):
-        return any(has_error(item) for item in value)
+        return any(has_object(item) for item in value)
     return isinstance(value, RoadError)
 
 

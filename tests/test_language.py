@@ -13,15 +13,18 @@ FOLDER = pathlib.Path(__file__).resolve().parent.parent / "keyroads"
 LIBRARY = {"heapq": {"heappush", "heappop"}, "math": {"gcd", "lcm"}}
 BUILTINS = {"len", "range", "enumerate", "zip", "min", "max", "sum", "abs", "sorted", "reversed", "int", "str", "bool",
             "list", "tuple", "dict", "set", "isinstance", "any", "all", "divmod", "ValueError"}
-METHODS = {"append", "count", "extend", "get", "index", "insert", "items", "keys", "pop", "setdefault", "update",
-           "values"}
+METHODS = {"append", "count", "extend", "get", "index", "insert", "items", "join", "keys", "partition", "pop",
+           "setdefault", "split", "startswith", "update", "values"}
+# The methods of values of Python's own whose names methods of the package have, too, and change nothing.
+SHARED = {"copy"}
 NODES = {"Module", "Expr", "ImportFrom", "alias", "FunctionDef", "ClassDef", "arguments", "arg", "Return", "Assign",
-         "AugAssign", "If", "While", "For", "Raise", "Continue", "Break", "Name", "Attribute", "Subscript", "Slice",
-         "Constant", "List", "Tuple", "Dict", "ListComp", "DictComp", "SetComp", "comprehension", "Call", "keyword",
+         "AugAssign", "If", "While", "For", "Raise", "Continue", "Break", "Try", "ExceptHandler", "Name", "Attribute", "Subscript", "Slice",
+         "Constant", "JoinedStr", "FormattedValue", "List", "Tuple", "Dict", "ListComp", "DictComp", "SetComp", "comprehension", "Call", "keyword",
          "BoolOp", "BinOp", "UnaryOp", "Compare", "IfExp", "Load", "Store", "And", "Or", "Not", "USub", "Add", "Sub",
          "Mult", "FloorDiv", "Mod", "LShift", "RShift", "BitAnd", "Eq", "NotEq", "Lt", "LtE", "Gt", "GtE", "Is",
          "IsNot", "In", "NotIn"}
-HELPERS = {"kinds", "checks", "roads", "lengths", "circles", "cuts", "ends", "orders", "hands", "ratios", "letters"}
+HELPERS = {"kinds", "checks", "roads", "lengths", "circles", "cuts", "ends", "orders", "hands", "ratios", "letters",
+           "single"}
 # Iterated on the spot, by what stands here, by a loop or by a comprehension.
 VIEWS = {"zip", "enumerate", "reversed", "range", "items", "keys", "values"}
 TAKERS = {"list", "tuple", "dict", "sorted", "sum", "any", "all", "enumerate", "zip", "min", "max", "reversed"}
@@ -62,7 +65,7 @@ def own_members():
     attributes, methods = {"value"}, set()
     for _, tree in trees():
         for made in [node for node in ast.walk(tree) if isinstance(node, ast.ClassDef)]:
-            methods |= {node.name for node in made.body if isinstance(node, ast.FunctionDef)} - {"__init__"}
+            methods |= {node.name for node in made.body if isinstance(node, ast.FunctionDef)} - {"__init__", "__eq__"}
             attributes |= {node.attr for node in ast.walk(made) if isinstance(node, ast.Attribute)
                            and isinstance(node.ctx, ast.Store)}
     return attributes, methods
@@ -159,15 +162,16 @@ class Names(unittest.TestCase):
     def test_no_name_has_another_meaning(self):
         for name, tree in trees():
             defined, imported = bound_at_top(tree)
-            for word in local_names(tree):
+            local = local_names(tree)
+            for word in local:
                 self.assertNotIn(word, imported, name)
-            for word in local_names(tree) + defined:
+            for word in local + defined:
                 self.assertFalse(word in dir(builtins) or word in BARRED or word.startswith("__"), (name, word))
             for node in ast.walk(tree):
                 if isinstance(node, ast.Name) and isinstance(node.ctx, ast.Load):
                     self.assertNotEqual(node.id, "_", name)
                     self.assertTrue(node.id in BUILTINS or node.id in defined or node.id in imported
-                                    or node.id in local_names(tree), (name, node.id))
+                                    or node.id in local, (name, node.id))
 
 
 class Forms(unittest.TestCase):
@@ -186,18 +190,47 @@ class Forms(unittest.TestCase):
                     self.assertTrue(isinstance(node.exc, ast.Call) and node.exc.func.id[0].isupper(), name)
                     self.assertFalse(node.cause or node.exc.keywords)
 
+    def test_errors_are_caught_around_one_call_alone(self):
+        for name, tree in trees():
+            for node in ast.walk(tree):
+                if isinstance(node, ast.Try):
+                    self.assertTrue(len(node.body) == 1 and isinstance(node.body[0], ast.Return), name)
+                    self.assertIn(node.body[0].value.func.id, bound_at_top(tree)[0])
+                    self.assertFalse(node.orelse or node.finalbody or len(node.handlers) > 1, name)
+                    self.assertTrue(node.handlers[0].type.id == "RoadError" and node.handlers[0].name is None, name)
+
+    def test_braces_in_strings_are_plain(self):
+        for name, tree in trees():
+            for node in ast.walk(tree):
+                if isinstance(node, ast.JoinedStr):
+                    self.assertEqual(node.lineno, node.end_lineno, name)
+                if isinstance(node, ast.FormattedValue):
+                    self.assertTrue(node.conversion == -1 and node.format_spec is None, name)
+                    self.assertFalse([inner for inner in ast.walk(node.value) if isinstance(inner, ast.Constant)
+                                      and isinstance(inner.value, str) or isinstance(inner, ast.JoinedStr)], name)
+                if isinstance(node, ast.Call) and isinstance(node.func, ast.Attribute) and node.func.attr == "join":
+                    self.assertIsInstance(node.func.value, ast.Constant, name)
+
+    def test_equality_changes_nothing(self):
+        for name, tree in trees():
+            for made in [node for node in ast.walk(tree) if isinstance(node, ast.FunctionDef) and node.name == "__eq__"]:
+                for node in ast.walk(made):
+                    self.assertNotIsInstance(node, (ast.Assign, ast.AugAssign, ast.For, ast.While), name)
+                    if isinstance(node, ast.Call):
+                        self.assertEqual(name_of_call(node), "isinstance", name)
+
     def test_members_have_names_of_their_own(self):
         attributes, methods = own_members()
         self.assertFalse(attributes & methods)
         for kind in (str, int, list, dict, set, bytes, tuple, range, slice):
-            self.assertFalse((attributes | methods) & set(dir(kind)), kind)
+            self.assertFalse((attributes | methods) - SHARED & set(dir(kind)), kind)
         for _, tree in trees():
             for made in [node for node in ast.walk(tree) if isinstance(node, ast.ClassDef)]:
                 words = [node.name for node in made.body if isinstance(node, ast.FunctionDef)]
                 self.assertEqual(len(words), len(set(words)))
                 for node in ast.walk(made):
                     if isinstance(node, ast.Attribute) and isinstance(node.ctx, ast.Store):
-                        self.assertEqual(node.value.id, "self")
+                        self.assertTrue(node.value.id == "self" or node.value.id in local_names(made))
 
     def test_methods_and_builtins(self):
         attributes, methods = own_members()

@@ -42,6 +42,16 @@ def any_values():
     ]
 
 
+def more_values(name):
+    """Further values for an argument of this name, of the kind that it takes."""
+    found = {
+        "events": [["send"], ["send", "bring"], [0, 1], [2, "send", "fall"], ["bring"], [0, "double"], ["work"]],
+        "value": [["send"], ["send", "bring"], ([0], [0]), (["send", "fall", "bring"], [0, "send", "fall", "bring"]),
+                  ([], 0), ([0, 0], 1)],
+    }
+    return found.get(name, [])
+
+
 def few_values():
     """A few wrong and right ones of them, for taking them in pairs."""
     return [None, True, -1, 0, 1, 5, "0", [], [0, 2], [0, 1, 0], [True], [(0, 1)], (0, 1), (2, []),
