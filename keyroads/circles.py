@@ -45,6 +45,19 @@ def first_unlike_ring(heads, changes):
     return None
 
 
+def first_ring_through(heads, house):
+    """The first ring, in order, that has a house in it, None if there is none."""
+    if house not in reached_from(heads, heads.get(house, [])):
+        return None
+    ways = [way for way in first_ways(heads) if way[0] <= house]
+    while ways:
+        way = ways.pop()
+        if house in way and closes(heads, way):
+            return way
+        ways.extend(longer_ways(heads, way))
+    return None
+
+
 def first_ways(heads):
     """The ways of one house each, the last one in order first: the search takes ways from the end."""
     return [[start] for start in sorted(heads, reverse=True)]

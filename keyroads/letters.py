@@ -110,6 +110,14 @@ class Wire:
         heard = [self.heard[pair] for pair in self.pairs]
         return (list(self.works), sorted(self.rested), heard, [list(self.lines[pair]) for pair in self.pairs])
 
+    def take_up(self, state):
+        """Go on from a state."""
+        works, resting, heard, lines = state
+        self.works = list(works)
+        self.rested = {house: True for house in resting}
+        self.heard = {pair: number for pair, number in zip(self.pairs, heard)}
+        self.lines = {pair: list(line) for pair, line in zip(self.pairs, lines)}
+
 
 def whole_wire(net, standing):
     """The wire at the beginning, with letters on all lines."""

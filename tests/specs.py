@@ -8,10 +8,10 @@ that the error holds, or what tells, of all arguments, what it holds instead.
 import copy
 import math
 
-from keyroads.errors import (InvalidEvent, InvalidHouse, InvalidHouses, InvalidMarks, InvalidNet,
+from keyroads.errors import (InvalidEvent, InvalidHouse, InvalidHouses, InvalidLine, InvalidMarks, InvalidNet,
                              InvalidNumber, InvalidRing, InvalidRun, InvalidScript, InvalidStanding, InvalidTimes,
                              InvalidWay, InvalidWorks, Unlike)
-from tests import plain, plain_marks, plain_wire
+from tests import plain, plain_changes, plain_logs, plain_marks, plain_wire
 
 
 def whole(value, least=0):
@@ -127,6 +127,41 @@ def on_line(arguments):
     return plain_marks.line_behind(*told) is not None
 
 
+def whole_log(arguments):
+    """How many lines of the text are those of a log, and whether they are all of it."""
+    events, length = plain_logs.plain_read(arguments["net"], arguments["standing"], arguments["text"])
+    return len(events), length == len(arguments["text"])
+
+
+def told_state(arguments):
+    """The state of a snapshot, or the number of its first wrong line."""
+    return plain_logs.plain_state(arguments["net"], arguments["text"])
+
+
+def goes_on_from(arguments):
+    """Whether the events are possible from the state of a snapshot on; its letters are numbers with these rests."""
+    wire = plain_wire.QuietWire(arguments["net"], arguments["standing"], sorted(plain.key_table(
+        arguments["net"], arguments["standing"])))
+    wire.works, wire.resting, heard, lines = told_state(arguments)
+    wire.heard = dict(zip(wire.asked, heard))
+    wire.lines = dict(zip(wire.asked, lines))
+    return plain_wire.goes_through(wire, arguments["events"])
+
+
+def not_done(arguments):
+    """The changes of the history that cannot be done in their turn, the first one first."""
+    here = (arguments["net"], arguments["standing"])
+    for at, change in enumerate(arguments["history"]):
+        here = plain_changes.changed(*here, change)
+        if here is None:
+            return arguments["history"][at:]
+    return []
+
+
+def keys_there(arguments):
+    return plain.key_table(arguments["net"], arguments["standing"])[arguments["u"], arguments["v"]]
+
+
 def house_check(name):
     return (lambda a: good_house(a["net"], a[name]), InvalidHouse, name)
 
@@ -191,6 +226,20 @@ MARKS_LETTER = (lambda a: whole(a["letter"]) and a["letter"] < a["marks"], Inval
 LETTERS = (lambda a: list_of(a["letters"], whole), InvalidNumber, "letters")
 DEAD = (lambda a: good_directions(a["net"], a["dead"]), InvalidHouses, "dead")
 MANY = (lambda a: whole(a["many"]), InvalidNumber, "many")
+TEXT = (lambda a: type(a["text"]) is str, InvalidLine, "text")
+LOG = (lambda a: whole_log(a)[1], InvalidLine, lambda a: whole_log(a)[0])
+SNAPSHOT = (lambda a: type(told_state(a)) is tuple, InvalidLine, told_state)
+GOES_ON = (goes_on_from, InvalidScript, "events")
+APART = BOTH + [house_check("u"), house_check("v"),
+                (lambda a: a["u"] != a["v"] and a["v"] not in plain.near(a["net"], a["u"]), InvalidHouse, "v")]
+KEYS_AT = [(lambda a: whole(a["at_u"]), InvalidNumber, "at_u"),
+           (lambda a: whole(a["at_v"]) and a["at_u"] + a["at_v"] > 0, InvalidNumber, "at_v")]
+LESS = (lambda a: keys_there(a) > 0 and keys_of(a["net"], a["u"], a["v"]) > 1, InvalidNumber, keys_there)
+ENDS = (lambda a: plain_changes.fits_ends(a["net"], a["ends"]), InvalidHouses, "ends")
+NOT_ALONE = (lambda a: a["net"][0] > 1, InvalidHouse, "house")
+HISTORY = BOTH + [(lambda a: type(a["history"]) is list, InvalidScript, "history"),
+                  (lambda a: not_done(a) == [], InvalidScript, lambda a: not_done(a)[0])]
+LINE = (lambda a: plain_logs.plain_of(a["line"]) is not None, InvalidLine, "line")
 
 SPECS = {
     "nets": {
@@ -386,6 +435,38 @@ SPECS = {
         "counts_without": ("net standing resting dead", REST + [DEAD]),
         "rounds_without": ("net standing resting dead many", REST + [DEAD, MANY]),
     },
+    "logs": {
+        "log_of": ("net standing events", SCRIPT),
+        "script_of": ("net standing text", BOTH + [TEXT, LOG]),
+        "mended": ("net standing text", BOTH + [TEXT]),
+        "replayed": ("net standing text", BOTH + [TEXT]),
+        "snapshot": ("net standing events", SCRIPT),
+        "state_of_snapshot": ("net text", [NET, TEXT, SNAPSHOT]),
+        "resumed": ("net standing text events", BOTH + [TEXT, SNAPSHOT, GOES_ON]),
+    },
+    "changes": {
+        "road_out": ("net standing u v", BOTH + TO),
+        "road_in": ("net standing u v at_u at_v", APART + KEYS_AT),
+        "key_in": ("net standing u v", BOTH + TO),
+        "key_out": ("net standing u v", BOTH + TO + [LESS]),
+        "house_in": ("net standing ends", BOTH + [ENDS]),
+        "house_out": ("net standing house", BOTH + [HOUSE, NOT_ALONE]),
+        "ring_by": ("net standing u v at_u at_v", APART + KEYS_AT),
+        "places_for": ("net standing u v many", APART + [least_one("many")]),
+        "ring_by_house": ("net standing ends", BOTH + [ENDS]),
+        "counts_with": ("net standing resting u v at_u at_v", REST + APART[2:] + KEYS_AT),
+        "kept_counts": ("net standing resting", REST),
+    },
+    "histories": {
+        "is_history": ("net standing value", BOTH),
+        "behind": ("net standing history", HISTORY),
+        "first_stuck": ("net standing history", HISTORY),
+        "taken_back": ("net standing history", HISTORY),
+    },
+    "lines": {
+        "line_of": ("net standing", BOTH),
+        "of_line": ("line", [LINE]),
+    },
 }
 
 # Right arguments, for all names, of a net without rings, of one with a stuck ring and of one with a free ring; "instead"
@@ -396,26 +477,41 @@ BASES = [
      "moves": [(1, 0)], "picks": [1], "known": [(0, 1)], "some": [(0, 1)], "value": [2], "wanted": [(1, 0), (0, 1)],
      "goal": 1, "times": [1, 2, 3], "many": 4, "period": (5, 1), "own": 1, "letter": 2,
      "events": [("rest", 0), ("send", 1, 0), ("bring", 1, 0)], "asked": [(0, 1), (1, 0), (1, 2), (2, 1)], "first": 1,
-     "marks": 3, "letters": [0, 2], "dead": [(0, 1)]},
+     "marks": 3, "letters": [0, 2], "dead": [(0, 1)], "text": "0 rest 0\n1 send 1 0\n", "at_u": 1, "at_v": 0,
+     "ends": [(0, 1, 0), (2, 2, 1)], "history": [("work", 2), ("more", 0, 1), ("house", [(1, 1, 1)])],
+     "line": "2: 0-1 2/3"},
     {"net": plain.RING, "standing": [1, 0, 1], "house": 1, "one": 1, "other": 2, "way": [0, 1, 0], "ring": [0, 2, 1],
      "run": [], "works": [0, 0, 0], "resting": [], "u": 0, "v": 1, "i": 1, "j": 2, "number": 0,
      "moves": [(0, 2)], "picks": [], "known": [(0, 0)], "some": [], "value": [0, 2, 1], "wanted": [], "goal": 0,
      "times": [1, 1, 1], "many": 0, "period": (1, 1), "own": 0, "letter": 0, "events": [], "asked": [(0, 1)], "first": 0,
-     "marks": 1, "letters": [], "dead": []},
+     "marks": 1, "letters": [], "dead": [], "text": "", "at_u": 0, "at_v": 1, "ends": [], "history": [], "line": "1:"},
     {"net": plain.RING, "standing": [1, 1, 1], "house": 2, "one": 2, "other": 0, "way": [1], "ring": [0, 1, 2],
      "run": [2, 1], "works": [0, 0, 1], "resting": [0, 2], "u": 2, "v": 0, "i": 2, "j": 1, "number": 3,
      "moves": [(0, 2)], "picks": [3, 0], "known": [(2, 1)], "some": [(1, 2)], "value": [2, 1, 0], "wanted": [(1, 2)],
      "goal": 2, "times": [9, 1, 1], "many": 3, "period": (25, 2), "own": 3, "letter": 1,
      "events": [("send", 0, 2), ("bring", 0, 2), ("send", 1, 2), ("bring", 1, 2), ("work", 2), ("rest", 2)],
-     "asked": [(0, 2), (1, 0), (2, 1)], "first": 2, "marks": 2, "letters": [5, 1, 1], "dead": [(0, 2), (1, 0)]},
+     "asked": [(0, 2), (1, 0), (2, 1)], "first": 2, "marks": 2, "letters": [5, 1, 1], "dead": [(0, 2), (1, 0)],
+     "text": "0 fall 2\n1 work 2", "at_u": 2, "at_v": 1, "ends": [(1, 0, 1)], "history": [("out", 1, 2), ("gone", 2)],
+     "line": "3: 0-1 1/0, 1-2 0/2"},
 ]
+# Nets with two houses that are no neighbours, and those whose roads have several keys.
+APART_ONES = [{"v": 0, "u": 2}, {"net": plain.TAIL, "standing": [0, 1, 0, 1], "u": 3, "v": 0, "many": 1},
+              {"net": (3, [(0, 1, 1)]), "standing": [0], "u": 2, "v": 0}]
+SHOTS = [{"text": "works 0 0 1\nresting 0\nline 0 1 -\nline 1 0 0\nline 1 2 - 1\nline 2 1 -\n", "events": [("fall", 0)]},
+         {"net": (1, []), "standing": [], "text": "works 3\nresting\n", "events": [("work", 0)]},
+         {"net": (2, [(0, 1, 1)]), "standing": [0], "text": "works 0 1\nresting\nline 0 1 0\nline 1 0 -\n",
+          "events": []}]
 TWO_RUN_LISTS = [{"one": [2], "other": [2]}, {"one": [], "other": []}, {"one": [2, 1], "other": [2, 1]}]
 OTHER_STANDINGS = [{"other": [0, 1]}, {"other": [1, 0, 1]}, {"other": [1, 0, 0]}]
 INSTEAD = {"steps_between": TWO_RUN_LISTS, "led_over": TWO_RUN_LISTS}
 INSTEAD.update({name: OTHER_STANDINGS for name in SPECS["reach"]})
 INSTEAD.update({name: [{"events": ["send", "bring", 2]}, {"events": []}, {"events": ["send", "fall", "bring"]}]
                 for name in ("line_read", "wants")})
+INSTEAD.update({name: APART_ONES for name in ("road_in", "ring_by", "places_for", "counts_with")})
 INSTEAD["quiet_state"] = [{}, {}, {"events": [("send", 0, 2), ("bring", 0, 2), ("work", 2)]}]
+INSTEAD["key_out"] = [{}, {"net": (2, [(0, 1, 3)]), "standing": [1]}, {"net": (3, [(0, 2, 2)]), "standing": [1]}]
+INSTEAD.update({name: SHOTS for name in ("state_of_snapshot", "resumed")})
+INSTEAD["script_of"] = [{}, {}, {"text": "0 fall 2\n"}]
 
 
 def all_functions():

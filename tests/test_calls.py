@@ -7,6 +7,7 @@ import itertools
 import unittest
 
 from keyroads.errors import RoadError, TooMany
+from keyroads.network import Network
 from tests.specs import BASES, all_functions, base_of, expected_error, good_net
 from tests.values import any_values, few_values, is_plain, lists_in, more_values
 
@@ -114,7 +115,7 @@ class Calls(unittest.TestCase):
 
 def is_far_beyond(name, changed, value):
     """Whether a number is so far beyond its limit that what is asked for never ends."""
-    return (name in ("with_rounds", "rounds_without") and changed == "many" and type(value) is int
+    return (name in ("with_rounds", "rounds_without", "places_for") and changed == "many" and type(value) is int
             and value > 600)
 
 
@@ -122,7 +123,7 @@ def has_object(value):
     """Whether an object of a class stands within a value: copies of these are written in another way."""
     if isinstance(value, (list, tuple)):
         return any(has_object(item) for item in value)
-    return isinstance(value, RoadError)
+    return isinstance(value, (RoadError, Network))
 
 
 if __name__ == "__main__":

@@ -24,7 +24,7 @@ NODES = {"Module", "Expr", "ImportFrom", "alias", "FunctionDef", "ClassDef", "ar
          "Mult", "FloorDiv", "Mod", "LShift", "RShift", "BitAnd", "Eq", "NotEq", "Lt", "LtE", "Gt", "GtE", "Is",
          "IsNot", "In", "NotIn"}
 HELPERS = {"kinds", "checks", "roads", "lengths", "circles", "cuts", "ends", "orders", "hands", "ratios", "letters",
-           "single"}
+           "figures", "single"}
 # Iterated on the spot, by what stands here, by a loop or by a comprehension.
 VIEWS = {"zip", "enumerate", "reversed", "range", "items", "keys", "values"}
 TAKERS = {"list", "tuple", "dict", "sorted", "sum", "any", "all", "enumerate", "zip", "min", "max", "reversed"}
